@@ -1,0 +1,1 @@
+"""Exact routes in maps that contain maps without end."""

@@ -1,0 +1,64 @@
+"""The examples of the document, as it prints them."""
+
+import doctest
+import unittest
+
+from slotmaps.atlases import atlas_error, is_atlas
+from slotmaps.places import is_place, map_at, steps_from, within
+from tests import samples
+
+EXAMPLES = r"""
+[8]
+    >>> E = (("e", 2, ("x",), ("e",), ((("node", 0), ("port", 1), 5), (("node", 0), ("slot", 0, 0), 1), (("port", 0), ("node", 0), 1), (("slot", 0, 1), ("port", 1), 1))),)
+    >>> B = (("a", 2, (), ("b",), ((("port", 0), ("port", 1), 9), (("port", 0), ("slot", 0, 0), 1), (("slot", 0, 1), ("port", 1), 1))), ("b", 2, (), (), ((("port", 0), ("port", 1), 3),)))
+    >>> K = [("e", ("port", 0), ("port", 1), (("edge", 2), ("edge", 0))), ("e", ("port", 0), ("port", 1), (("edge", 2), ("edge", 1), ("call", 0, 0), ("edge", 3)))]
+    >>> [E, B, K] == [samples.E, samples.B, samples.K]
+    True
+
+[9]
+    >>> atlas_error((("a", 1, (), ("b",), ()),))
+    ('slot', 0, 0)
+
+[10]
+    >>> is_atlas(E)
+    True
+
+[11]
+    >>> map_at(E, "e", (0, 0))
+    'e'
+
+[12]
+    >>> is_place(E, "e", ((0,), ("node", 1)))
+    False
+
+[14]
+    >>> steps_from(E, "e", ((0,), ("port", 1)))
+    [(((), ('port', 1)), 1)]
+
+[15]
+    >>> within(E, "e", ((), ("port", 0)), 2)
+    [(0, ((), ('port', 0))), (1, ((), ('node', 0))), (2, ((0,), ('port', 0)))]
+"""
+NAMES = {
+    "samples": samples,
+    "atlas_error": atlas_error,
+    "is_atlas": is_atlas,
+    "map_at": map_at,
+    "is_place": is_place,
+    "steps_from": steps_from,
+    "within": within,
+}
+
+
+class ExamplesTest(unittest.TestCase):
+    def test_examples(self):
+        test = doctest.DocTestParser().get_doctest(EXAMPLES, dict(NAMES), "examples", None, 0)
+        told = []
+        result = doctest.DocTestRunner(verbose=False).run(test, out=told.append)
+        self.assertEqual((result.failed, "".join(told)), (0, ""))
+        self.assertEqual(result.attempted, len(test.examples))
+        self.assertEqual(result.attempted, 10)
+
+
+if __name__ == "__main__":
+    unittest.main()
