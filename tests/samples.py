@@ -169,7 +169,7 @@ def random_edges(rng, maps, chart, most_cost):
 
 
 def full_atlas():
-    """Return an atlas that reaches every bound: 8 maps of 4 ports, 8 nodes, 4 slots and 40 edges, names of 8 letters."""
+    """Return an atlas that reaches every bound: of maps, letters, ports, nodes, slots, edges and costs."""
     rng = Random(5)
     names = ["abcdefg" + letter for letter in "stuvwxyz"]
     maps = [(name, 4, ("labelxyz",) * 8, (name, names[0], names[7], name)) for name in names]

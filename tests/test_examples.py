@@ -1,7 +1,8 @@
-"""The examples of the document, as it prints them."""
+"""The examples of the document, as it prints them, and those of README.md."""
 
 import doctest
 import unittest
+from pathlib import Path
 
 from slotmaps.atlases import atlas_error, is_atlas
 from slotmaps.places import is_place, map_at, steps_from, within
@@ -51,13 +52,20 @@ NAMES = {
 
 
 class ExamplesTest(unittest.TestCase):
-    def test_examples(self):
-        test = doctest.DocTestParser().get_doctest(EXAMPLES, dict(NAMES), "examples", None, 0)
+    def check(self, text, names, many):
+        """All of the examples in the text, so many, print what stands below them."""
+        test = doctest.DocTestParser().get_doctest(text, names, "examples", None, 0)
         told = []
         result = doctest.DocTestRunner(verbose=False).run(test, out=told.append)
         self.assertEqual((result.failed, "".join(told)), (0, ""))
-        self.assertEqual(result.attempted, len(test.examples))
-        self.assertEqual(result.attempted, 10)
+        self.assertEqual((result.attempted, len(test.examples)), (many, many))
+
+    def test_document(self):
+        self.check(EXAMPLES, dict(NAMES), 10)
+
+    def test_readme(self):
+        readme = Path(__file__).resolve().parent.parent / "README.md"
+        self.check(readme.read_text(encoding="utf-8"), {}, 7)
 
 
 if __name__ == "__main__":

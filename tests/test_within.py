@@ -148,7 +148,9 @@ class WithinTest(unittest.TestCase):
             # No path of cost 4 leads from depth 1 to below depth 5.
             found = copies(atlas, root, 5)
             all_steps = steps(found)
-            near = [place for address, chart in found.items() if len(address) < 2 for place in places_of(chart, address)]
+            near = []
+            for address in [address for address in found if len(address) < 2]:
+                near.extend(places_of(found[address], address))
             for place in rng.sample(near, min(len(near), 4)):
                 for budget in range(5):
                     costs = costs_from(all_steps, place, budget)
