@@ -34,12 +34,17 @@ def is_atlas(value):
     return atlas_error(value) is None
 
 
-def checked_maps(atlas, name):
-    """Return the maps of the atlas by name; raise BadAtlas, then UnknownMap for the name."""
+def checked_atlas(atlas):
+    """Return the maps of the atlas by name; raise BadAtlas if it is no atlas."""
     reason = atlas_error(atlas)
     if reason is not None:
         raise BadAtlas(reason)
-    maps = maps_by_name(atlas)
+    return maps_by_name(atlas)
+
+
+def checked_maps(atlas, name):
+    """Return the maps of the atlas by name; raise BadAtlas, then UnknownMap for the name."""
+    maps = checked_atlas(atlas)
     # Only a string is looked up: other values may have no hash.
     if not isinstance(name, str) or name not in maps:
         raise UnknownMap()
@@ -127,3 +132,10 @@ def is_point(maps, chart, value):
         return word == "slot" and is_index(s, len(chart[3])) and is_index(i, maps[chart[3][s]][1])
     word, j = value
     return (word == "node" and is_index(j, len(chart[2]))) or (word == "port" and is_index(j, chart[1]))
+
+
+def points_of(maps, chart):
+    """Return all points of this map."""
+    nodes = [("node", j) for j in range(len(chart[2]))]
+    ports = [("port", i) for i in range(chart[1])]
+    return nodes + ports + [("slot", s, i) for s, name in enumerate(chart[3]) for i in range(maps[name][1])]

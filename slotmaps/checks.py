@@ -11,9 +11,15 @@ def is_integer_in(value, low, high):
     return is_integer(value) and low <= value <= high
 
 
+def is_count(value):
+    """Return whether the value is an integer from 0 on."""
+    return is_integer(value) and value >= 0
+
+
 def is_index(value, many):
     """Return whether the value is the index of one of so many things."""
-    return is_integer_in(value, 0, many - 1)
+    # Written out, not by the checks above: this is asked for each item of long routes and addresses.
+    return isinstance(value, int) and not isinstance(value, bool) and 0 <= value < many
 
 
 def is_tuple(value, low, high):

@@ -183,3 +183,119 @@ def full_atlas():
 
 
 FULL = full_atlas()
+
+
+def linked_atlas(rng, most_maps=4, most_slots=2, most_cost=3, most_ports=3, most_nodes=2):
+    """Return an atlas of few points and many edges, so that most ports can be reached from one another."""
+    names = sorted(rng.sample(["a", "b", "c", "dd", "eee", "f", "gg", "h"], rng.randint(1, most_maps)))
+    maps = []
+    for name in names:
+        labels = tuple([rng.choice(["x", "y"]) for _ in range(rng.randint(0, most_nodes))])
+        slots = tuple([rng.choice(names) for _ in range(rng.randint(0, most_slots))])
+        maps.append((name, rng.randint(1, most_ports), labels, slots))
+    return tuple([chart + (linking_edges(rng, maps, chart, most_cost),) for chart in maps])
+
+
+def linking_edges(rng, maps, chart, most_cost):
+    """Return edges for a map, mostly between its ports and its slots."""
+    points = points_of(maps, chart)
+    pairs = [(source, target) for source in points for target in points if source != target]
+    # Few edges lead from port to port, so that paths lead through the copies in the slots.
+    likely = [pair for pair in pairs if {pair[0][0], pair[1][0]} != {"port"} or rng.random() < 0.2]
+    chosen = sorted(rng.sample(likely, min(len(likely), rng.randint(len(points), 2 * len(points) + 1), 40)))
+    return tuple([pair + (rng.randint(1, most_cost),) for pair in chosen])
+
+
+def winding_atlas(many=8):
+    """Return an atlas of maps in a ring, with one slot each: a way turns by one port when it has gone around."""
+    names = "abcdefgh"[:many]
+    maps = []
+    for k, name in enumerate(names):
+        turn = 1 if k == many - 1 else 0
+        edges = [(("port", i), ("slot", 0, (i + turn) % 4), 1) for i in range(4)]
+        edges += [(("slot", 0, (i + turn) % 4), ("port", i), 1) for i in range(4)]
+        edges += [(("port", 0), ("port", 1), 1)] if k == 0 else []
+        maps.append((name, 4, (), (names[(k + 1) % many],), tuple(sorted(edges))))
+    return tuple(maps)
+
+
+# A map with ways from its port down and up again, so that parts may call one another as often as is asked for.
+LOOP = (
+    (
+        "o",
+        1,
+        ("x",),
+        ("o",),
+        (
+            (("node", 0), ("port", 0), 2),
+            (("port", 0), ("node", 0), 3),
+            (("port", 0), ("slot", 0, 0), 5),
+            (("slot", 0, 0), ("port", 0), 7),
+        ),
+    ),
+)
+PORT = ("port", 0)
+SLOT = ("slot", 0, 0)
+
+
+def loop_part(items):
+    """Return a part of the map of LOOP from its port to its port."""
+    return ("o", PORT, PORT, tuple(items))
+
+
+def loop_tower(many):
+    """Return many parts of LOOP, each with 198 calls of the one before it, and their numbers of steps."""
+    parts = [loop_part([("edge", 1), ("edge", 0)])]
+    steps = [2]
+    for k in range(1, many):
+        parts.append(loop_part([("edge", 2)] + [("call", 0, k - 1)] * 198 + [("edge", 3)]))
+        steps.append(198 * steps[-1] + 2)
+    return parts, steps
+
+
+def loop_route(many):
+    """Return a route of LOOP of exactly so many steps, from the slot's port to itself, or to the port if many is odd."""
+    levels = 1
+    while loop_tower(levels)[1][-1] < many:
+        levels += 1
+    parts, steps = loop_tower(levels)
+    calls = []
+    left = many - many % 2
+    for k in reversed(range(levels)):
+        times = min(198, max(0, (left - 2) // steps[k]))
+        if times:
+            parts.append(loop_part([("edge", 2)] + [("call", 0, k)] * times + [("edge", 3)]))
+            calls.append(("call", 0, len(parts) - 1))
+            left -= times * steps[k] + 2
+    # What is left is even and small; two steps at a time are made by the first part.
+    calls += [("call", 0, 0)] * (left // 2)
+    if many % 2:
+        return parts + [("o", SLOT, PORT, tuple(calls) + (("edge", 3),))]
+    return parts + [("o", SLOT, SLOT, tuple(calls))]
+
+
+def loop_chain(many):
+    """Return a route of LOOP of so many parts, each with a call of the one before it."""
+    parts = [loop_part([("edge", 1), ("edge", 0)])]
+    for k in range(1, many):
+        parts.append(loop_part([("edge", 2), ("call", 0, k - 1), ("edge", 3)]))
+    return parts
+
+
+def turning_atlas(rng, many=4, most_cost=1000000):
+    """Return an atlas in which ways from port to port are cheap deep down: each map has dear edges and cheap slots."""
+    names = "abcdefgh"[:many]
+    maps = []
+    for name in names:
+        slots = tuple([rng.choice(names) for _ in range(rng.randint(1, 2))])
+        edges = {}
+        for s in range(len(slots)):
+            order = rng.sample(range(4), 4)
+            for i in rng.sample(range(4), rng.randint(2, 4)):
+                edges[(("port", i), ("slot", s, order[i]))] = rng.randint(1, 3)
+                edges[(("slot", s, order[i]), ("port", i))] = rng.randint(1, 3)
+        for _ in range(rng.randint(1, 3)):
+            i, j = rng.sample(range(4), 2)
+            edges[(("port", i), ("port", j))] = rng.randint(1, most_cost)
+        maps.append((name, 4, (), slots, tuple([pair + (edges[pair],) for pair in sorted(edges)])))
+    return tuple(maps)

@@ -5,7 +5,11 @@ import unittest
 from pathlib import Path
 
 from slotmaps.atlases import atlas_error, is_atlas
+from slotmaps.measures import measure
 from slotmaps.places import is_place, map_at, steps_from, within
+from slotmaps.reading import cost_at, point_at, step_at
+from slotmaps.routes import best_route, count_best
+from slotmaps.tables import depth_profile, is_supporting, limited_tables, port_tables
 from tests import samples
 
 EXAMPLES = r"""
@@ -39,6 +43,38 @@ EXAMPLES = r"""
 [15]
     >>> within(E, "e", ((), ("port", 0)), 2)
     [(0, ((), ('port', 0))), (1, ((), ('node', 0))), (2, ((0,), ('port', 0)))]
+
+[16]
+    >>> port_tables(E)
+    {'e': ((0, 6), (None, 0))}
+
+[17]
+    >>> limited_tables(B, 0)["a"]
+    ((0, 9), (None, 0))
+
+[18]
+    >>> depth_profile(B, "a", 0, 1)
+    [(0, 9), (1, 5)]
+
+[19]
+    >>> [is_supporting(E, {"e": ((0, 3), (None, 0))}), is_supporting(E, {"e": ((0, 7), (None, 0))})]
+    [True, False]
+
+[22]
+    >>> measure(E, K)
+    (9, 5, 1)
+
+[23]
+    >>> measure(B, best_route(B, "a", ("port", 0), ("port", 1)))
+    (5, 3, 1)
+
+[24]
+    >>> count_best(E, "e", ("port", 0), ("port", 1))
+    1
+
+[25]
+    >>> [step_at(E, K, 2), point_at(E, K, 2), cost_at(E, K, 3)]
+    [((0,), 2), ((0,), ('port', 0)), 3]
 """
 NAMES = {
     "samples": samples,
@@ -48,6 +84,16 @@ NAMES = {
     "is_place": is_place,
     "steps_from": steps_from,
     "within": within,
+    "port_tables": port_tables,
+    "limited_tables": limited_tables,
+    "depth_profile": depth_profile,
+    "is_supporting": is_supporting,
+    "measure": measure,
+    "best_route": best_route,
+    "count_best": count_best,
+    "step_at": step_at,
+    "point_at": point_at,
+    "cost_at": cost_at,
 }
 
 
@@ -61,11 +107,11 @@ class ExamplesTest(unittest.TestCase):
         self.assertEqual((result.attempted, len(test.examples)), (many, many))
 
     def test_document(self):
-        self.check(EXAMPLES, dict(NAMES), 10)
+        self.check(EXAMPLES, dict(NAMES), 18)
 
     def test_readme(self):
         readme = Path(__file__).resolve().parent.parent / "README.md"
-        self.check(readme.read_text(encoding="utf-8"), {}, 7)
+        self.check(readme.read_text(encoding="utf-8"), {}, 15)
 
 
 if __name__ == "__main__":
