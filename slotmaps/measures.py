@@ -61,14 +61,15 @@ def read_part(maps, route, found, part):
     cost = 0
     levels = 0
     for item in items:
-        if is_edge_item(chart, item, here):
+        size = len(item) if isinstance(item, tuple) else 0
+        if size == 2 and is_edge_item(chart, item, here):
             _, here, price = chart[4][item[1]]
             steps += 1
             cost += price
             levels = max(levels, 1)
-        elif is_call_item(chart, route, found, item, here):
+        elif size == 3 and is_call_item(chart, route, found, item, here):
             more, price, inner = found[item[2]]
-            here = (here[0], here[1], route[item[2]][2][1])
+            here = ("slot", item[1], route[item[2]][2][1])
             steps += more
             cost += price
             # A call without steps uses no copy, so that it has no levels.
@@ -80,21 +81,17 @@ def read_part(maps, route, found, part):
 
 
 def is_edge_item(chart, value, here):
-    """Return whether the value is an item for an edge that leaves this point."""
-    return (
-        is_tuple(value, 2, 2)
-        and value[0] == "edge"
-        and is_index(value[1], len(chart[4]))
-        and chart[4][value[1]][0] == here
-    )
+    """Return whether a tuple of two is an item for an edge that leaves this point."""
+    word, e = value
+    return word == "edge" and is_index(e, len(chart[4])) and chart[4][e][0] == here
 
 
 def is_call_item(chart, route, found, value, here):
-    """Return whether the value is an item for a call, from this point, of a part that was found."""
-    if not is_tuple(value, 3, 3) or value[0] != "call" or here[0] != "slot":
+    """Return whether a tuple of three is an item for a call, from this point, of a part that was found."""
+    word, s, position = value
+    if word != "call" or here[0] != "slot" or not is_index(s, len(chart[3])) or here[1] != s:
         return False
-    _, s, position = value
-    if not is_index(s, len(chart[3])) or here[1] != s or not is_index(position, len(found)):
+    if not is_index(position, len(found)):
         return False
     name, start, end, _ = route[position]
     return name == chart[3][s] and start == ("port", here[2]) and end[0] == "port"

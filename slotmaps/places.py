@@ -68,6 +68,14 @@ def copy_name(maps, root, address):
     return name
 
 
+def names_along(maps, root, address):
+    """Return the names of the maps of the copies around and at the address of a copy, from the root down."""
+    names = [root]
+    for s in address:
+        names.append(maps[names[-1]][3][s])
+    return names
+
+
 def passed_copy(maps, root, value):
     """Return the name of the map of the copy at a value that was passed, or None if it is no such address."""
     if not is_tuple(value, 0, MOST_INDEXES):

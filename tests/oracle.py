@@ -1,5 +1,7 @@
 """Slow answers to compare with, worked out in other ways than the package does: by relaxing until nothing changes."""
 
+from collections import deque
+
 from tests.expansion import copies, costs_from, place, places_of, steps
 from tests.samples import points_of
 
@@ -8,14 +10,17 @@ HUGE = 10**900
 
 def relaxed(ways, costs):
     """Return the least costs of points by ways (source, target, cost), from points with these costs."""
+    leaving = {}
+    for source, target, cost in ways:
+        leaving.setdefault(source, []).append((target, cost))
     costs = dict(costs)
-    changed = True
+    changed = deque(costs)
     while changed:
-        changed = False
-        for source, target, cost in ways:
-            if source in costs and costs[source] + cost < costs.get(target, HUGE):
-                costs[target] = costs[source] + cost
-                changed = True
+        here = changed.popleft()
+        for target, cost in leaving.get(here, []):
+            if costs[here] + cost < costs.get(target, HUGE):
+                costs[target] = costs[here] + cost
+                changed.append(target)
     return costs
 
 

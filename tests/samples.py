@@ -299,3 +299,81 @@ def turning_atlas(rng, many=4, most_cost=1000000):
             edges[(("port", i), ("port", j))] = rng.randint(1, most_cost)
         maps.append((name, 4, (), slots, tuple([pair + (edges[pair],) for pair in sorted(edges)])))
     return tuple(maps)
+
+
+def walked_items(rng, atlas, parts, name, start, many):
+    """Return (items, end) of a walk of at most so many items by edges and by calls of the parts, for a new part."""
+    chart = [chart for chart in atlas if chart[0] == name][0]
+    here = start
+    items = []
+    while len(items) < many:
+        moves = [(("edge", e), edge[1]) for e, edge in enumerate(chart[4]) if edge[0] == here]
+        if here[0] == "slot":
+            for p, (called, first, last, _) in enumerate(parts):
+                if called == chart[3][here[1]] and first == ("port", here[2]) and last[0] == "port":
+                    moves.append((("call", here[1], p), ("slot", here[1], last[1])))
+        if not moves:
+            break
+        item, here = rng.choice(moves)
+        items.append(item)
+    return items, here
+
+
+def random_route(rng, atlas, parts=6, items=6):
+    """Return a route of random parts: most lead from port to port, the last one from any point to any other."""
+    made = []
+    while len(made) < parts:
+        chart = rng.choice(atlas)
+        start = ("port", rng.randrange(chart[1]))
+        if len(made) == parts - 1:
+            start = rng.choice(points_of(atlas, chart))
+        walk, end = walked_items(rng, atlas, made, chart[0], start, rng.randint(0, items))
+        if end[0] != "port" and len(made) < parts - 1:
+            # A part that ends elsewhere cannot be called, so it is mostly tried again.
+            if rng.random() < 0.9:
+                continue
+        made.append((chart[0], start, end, tuple(walk)))
+    return made
+
+
+def random_place(rng, atlas, root, length):
+    """Return a place at an address of so many indexes, or fewer if there is no slot."""
+    maps = {chart[0]: chart for chart in atlas}
+    address, name = (), root
+    while len(address) < length and maps[name][3]:
+        s = rng.randrange(len(maps[name][3]))
+        address, name = address + (s,), maps[name][3][s]
+    return address, rng.choice([point for point in points_of(atlas, maps[name]) if point[0] != "slot"])
+
+
+def random_places(rng, atlas, root, length):
+    """Return two places: in one copy, in copies inside one another, or beside one another."""
+    first = random_place(rng, atlas, root, rng.randint(0, length))
+    second = random_place(rng, atlas, root, rng.randint(0, length))
+    if rng.random() < 0.6:
+        # The second place comes to lie under a prefix of the address of the first.
+        address = first[0][: rng.randint(0, len(first[0]))]
+        name = root
+        for s in address:
+            name = [chart for chart in atlas if chart[0] == name][0][3][s]
+        inner = random_place(rng, atlas, name, rng.randint(0, max(0, length - len(address))))
+        second = address + inner[0], inner[1]
+    return (first, second) if rng.random() < 0.5 else (second, first)
+
+
+# The way from port 0 to port 1 leads up and down again: only the copy around joins the two ports.
+UP = (
+    (
+        "u",
+        2,
+        ("x", "y"),
+        ("u", "u"),
+        (
+            (("node", 0), ("port", 0), 1),
+            (("port", 0), ("slot", 0, 0), 1),
+            (("port", 1), ("node", 1), 1),
+            (("slot", 0, 0), ("port", 0), 1),
+            (("slot", 0, 0), ("slot", 1, 1), 4),
+        ),
+    ),
+)

@@ -5,11 +5,15 @@ import unittest
 from pathlib import Path
 
 from slotmaps.atlases import atlas_error, is_atlas
+from slotmaps.between import cost_between, outer_table
+from slotmaps.certificates import bars, certificate
+from slotmaps.cutting import join_routes, slice_route
 from slotmaps.measures import measure
 from slotmaps.places import is_place, map_at, steps_from, within
 from slotmaps.reading import cost_at, point_at, step_at
 from slotmaps.routes import best_route, count_best
 from slotmaps.tables import depth_profile, is_supporting, limited_tables, port_tables
+from slotmaps.trips import best_trip, measure_trip
 from tests import samples
 
 EXAMPLES = r"""
@@ -75,6 +79,36 @@ EXAMPLES = r"""
 [25]
     >>> [step_at(E, K, 2), point_at(E, K, 2), cost_at(E, K, 3)]
     [((0,), 2), ((0,), ('port', 0)), 3]
+
+[26]
+    >>> measure(E, slice_route(E, K, 1, 4))
+    (7, 3, 1)
+
+[27]
+    >>> measure(E, join_routes(E, slice_route(E, K, 0, 1), slice_route(E, K, 1, 5)))
+    (9, 5, 1)
+
+[28]
+    >>> cost_between(E, "e", ((0, 0), ("node", 0)), ((), ("port", 1)))
+    7
+
+[29]
+    >>> outer_table(E, "e", (0,))
+    ((0, None), (None, 0))
+
+[30]
+    >>> measure_trip(E, "e", ((), ("port", 0)), [((), K)])
+    (((), ('port', 1)), 9, 5)
+
+[31]
+    >>> measure_trip(E, "e", ((0, 0), ("node", 0)), best_trip(E, "e", ((0, 0), ("node", 0)), ((), ("port", 1))))
+    (((), ('port', 1)), 7, 3)
+
+[33]
+    >>> p, q = ((), ("port", 0)), ((), ("port", 1))
+    >>> paper = certificate(E, "e", p, q)
+    >>> [bars(E, "e", p, q, 6, paper), bars(E, "e", p, q, 7, paper), bars(E, "e", p, q, None, paper)]
+    [True, False, False]
 """
 NAMES = {
     "samples": samples,
@@ -94,6 +128,14 @@ NAMES = {
     "step_at": step_at,
     "point_at": point_at,
     "cost_at": cost_at,
+    "slice_route": slice_route,
+    "join_routes": join_routes,
+    "cost_between": cost_between,
+    "outer_table": outer_table,
+    "measure_trip": measure_trip,
+    "best_trip": best_trip,
+    "certificate": certificate,
+    "bars": bars,
 }
 
 
@@ -107,11 +149,11 @@ class ExamplesTest(unittest.TestCase):
         self.assertEqual((result.attempted, len(test.examples)), (many, many))
 
     def test_document(self):
-        self.check(EXAMPLES, dict(NAMES), 18)
+        self.check(EXAMPLES, dict(NAMES), 27)
 
     def test_readme(self):
         readme = Path(__file__).resolve().parent.parent / "README.md"
-        self.check(readme.read_text(encoding="utf-8"), {}, 15)
+        self.check(readme.read_text(encoding="utf-8"), {}, 20)
 
 
 if __name__ == "__main__":

@@ -1,0 +1,126 @@
+"""Certificates that no path from one place to another costs less.
+
+The copies of the spine are those around the two places. Floors bound what paths cost up to the places of these
+copies; the tables bound what paths cost inside all other copies.
+"""
+
+from slotmaps.atlases import checked_maps, points_of
+from slotmaps.checks import is_count, is_tuple
+from slotmaps.crossings import start_costs
+from slotmaps.errors import BadCost
+from slotmaps.graphs import entries
+from slotmaps.insides import Insides
+from slotmaps.places import check_place, names_along, place_of
+from slotmaps.tables import is_at_most, supports
+
+
+def certificate(atlas, root, first, second):
+    """Return a certificate for two places in which the floor of the second one is their least cost."""
+    maps = checked_maps(atlas, root)
+    check_place(maps, root, first)
+    check_place(maps, root, second)
+    insides = Insides(maps)
+    copies = spine(maps, root, first, second)
+    costs = spine_costs(insides, root, copies, first)
+    floors = {}
+    for address, chart in copies.items():
+        for point in points_of(maps, chart):
+            floors[place_of(address, point)] = costs[address].get(point)
+    return (insides.tables, floors)
+
+
+def bars(atlas, root, first, second, cost, value):
+    """Return whether the value is a certificate for two places with a floor of the second one of at least the cost."""
+    maps = checked_maps(atlas, root)
+    check_place(maps, root, first)
+    check_place(maps, root, second)
+    if cost is not None and not is_count(cost):
+        raise BadCost()
+    if not is_tuple(value, 2, 2):
+        return False
+    tables, floors = value
+    return (
+        supports(maps, tables)
+        and are_floors(maps, spine(maps, root, first, second), tables, floors)
+        and floors[first] == 0
+        and is_at_most(cost, floors[second])
+    )
+
+
+def spine(maps, root, first, second):
+    """Return a dict from the address of each copy around the two places to its map, each copy before those in it."""
+    copies = {}
+    for address, _ in (first, second):
+        for level, name in enumerate(names_along(maps, root, address)):
+            copies[address[:level]] = maps[name]
+    return copies
+
+
+def spine_costs(insides, root, copies, first):
+    """Return a dict from the address of each copy to the least costs of its points, from the first place."""
+    starts = start_costs(insides, names_along(insides.maps, root, first[0]), first)
+    costs = {}
+    for address, chart in copies.items():
+        level = len(address)
+        known = {}
+        if address == first[0][:level]:
+            known = {point: cost for point, (cost, _) in starts[level].items()}
+        if address:
+            # A path that comes from outside the copy has come in by one of its ports.
+            around = costs[address[:-1]]
+            for i in range(chart[1]):
+                cost = around.get(("slot", address[-1], i))
+                if cost is not None:
+                    known[("port", i)] = min(cost, known.get(("port", i), cost))
+        costs[address] = spread_costs(insides, chart[0], known)
+    return costs
+
+
+def spread_costs(insides, name, known):
+    """Return the least costs of the points of a copy, by paths inside it, from points with these costs."""
+    costs = {}
+    for start, before in known.items():
+        for point, cost in insides.row(name, start).items():
+            if point not in costs or before + cost < costs[point]:
+                costs[point] = before + cost
+    return costs
+
+
+def are_floors(maps, copies, tables, floors):
+    """Return whether the value is a dict of floors that hold in these copies, whatever the first place."""
+    if not isinstance(floors, dict) or len(floors) != many_places(maps, copies):
+        return False
+    for address, chart in copies.items():
+        places = {point: place_of(address, point) for point in points_of(maps, chart)}
+        if not all([place in floors and is_floor(floors[place]) for place in places.values()]):
+            return False
+        outside = {s: tables[name] for s, name in enumerate(chart[3]) if address + (s,) not in copies}
+        if not floors_hold(chart, outside, {point: floors[place] for point, place in places.items()}):
+            return False
+    return True
+
+
+def many_places(maps, copies):
+    """Return the number of the spine places: nodes and ports of these copies, and ports of the copies in their slots."""
+    many = 0
+    for address, chart in copies.items():
+        outside = [name for s, name in enumerate(chart[3]) if address + (s,) not in copies]
+        many += len(chart[2]) + chart[1] + sum([maps[name][1] for name in outside])
+    return many
+
+
+def is_floor(value):
+    """Return whether the value is None or an integer from 0 on."""
+    return value is None or is_count(value)
+
+
+def floors_hold(chart, outside, floors):
+    """Return whether floors of the points of a copy hold by its edges and by the tables of the slots outside."""
+    ways = list(chart[4])
+    for s, table in outside.items():
+        ways.extend([(("slot", s, i), ("slot", s, j), cost) for i, j, cost in entries(table)])
+    for source, target, cost in ways:
+        before = floors[source]
+        if before is not None and not is_at_most(floors[target], before + cost):
+            return False
+    return True
