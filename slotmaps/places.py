@@ -6,7 +6,8 @@ A variable that holds a map is called chart, since map is the name of a builtin.
 from heapq import heappop, heappush
 
 from slotmaps.atlases import checked_maps, is_point
-from slotmaps.checks import is_index, is_integer, is_tuple
+from slotmaps.checks import is_count, is_index, is_tuple
+from slotmaps.copies import Copies
 from slotmaps.errors import BadAddress, BadCost, BadPlace, TooLarge
 
 MOST_INDEXES = 200
@@ -32,29 +33,38 @@ def steps_from(atlas, root, place):
     """Return all steps that leave the place, as (target place, cost)."""
     maps = checked_maps(atlas, root)
     check_place(maps, root, place)
-    return sorted(leaving(maps, root, place))
+    copies = Copies(maps, root, place[0])
+    steps = copies.leaving(copies.last(), place[1])
+    return sorted([((copies.addresses[number], target), cost) for number, target, cost in steps])
 
 
 def within(atlas, root, place, budget):
     """Return all places that can be reached at a cost of at most the budget, as (least cost, place)."""
     maps = checked_maps(atlas, root)
     check_place(maps, root, place)
-    if not is_integer(budget) or budget < 0:
+    if not is_count(budget):
         raise BadCost()
+    copies = Copies(maps, root, place[0])
+    costs = costs_within(copies, place, budget)
+    return sorted([(cost, (copies.addresses[number], point)) for (number, point), cost in costs.items()])
+
+
+def costs_within(copies, place, budget):
+    """Return the least costs within the budget, by (number of the copy, point), from a place of the last copy."""
     costs = {}
-    queue = [(0, place)]
+    queue = [(0, copies.last(), place[1])]
     while queue:
-        cost, here = heappop(queue)
-        if here in costs:
+        cost, number, point = heappop(queue)
+        if (number, point) in costs:
             continue
         # Stopping at the first place beyond a limit keeps the search finite, however great the budget.
-        if len(costs) == MOST_PLACES or len(here[0]) > MOST_INDEXES:
+        if len(costs) == MOST_PLACES or len(copies.addresses[number]) > MOST_INDEXES:
             raise TooLarge()
-        costs[here] = cost
-        for target, price in leaving(maps, root, here):
-            if cost + price <= budget and target not in costs:
-                heappush(queue, (cost + price, target))
-    return sorted([(cost, reached) for reached, cost in costs.items()])
+        costs[(number, point)] = cost
+        for target_copy, target, price in copies.leaving(number, point):
+            if cost + price <= budget and (target_copy, target) not in costs:
+                heappush(queue, (cost + price, target_copy, target))
+    return costs
 
 
 def copy_name(maps, root, address):
@@ -103,19 +113,3 @@ def place_of(address, point):
     if point[0] == "slot":
         return (address + (point[1],), ("port", point[2]))
     return (address, point)
-
-
-def leaving(maps, root, place):
-    """Return the steps that leave a place, in any order."""
-    address, point = place
-    steps = leaving_by(maps, root, address, point)
-    if point[0] == "port" and address:
-        # The copy around sees this port as a point of its slot.
-        steps = steps + leaving_by(maps, root, address[:-1], ("slot", address[-1], point[1]))
-    return steps
-
-
-def leaving_by(maps, root, address, point):
-    """Return the steps that leave a point of the copy at the address by edges of this copy."""
-    chart = maps[copy_name(maps, root, address)]
-    return [(place_of(address, target), cost) for source, target, cost in chart[4] if source == point]

@@ -1,5 +1,6 @@
 """Places within a budget: [15]."""
 
+import sys
 import unittest
 from random import Random
 
@@ -117,6 +118,56 @@ class WithinTest(unittest.TestCase):
             self.check(down, "d", start, most + 1, expected)
             self.check_error(TooLarge, down, "d", start, most + 2)
             self.check_error(TooLarge, down, "d", start, 10**399)
+
+    def check_chain(self, costs, down):
+        """In a chain of copies, all places of 200 levels are found; a greater budget leads too far.
+
+        With four nodes in each copy there is one place too many, with fewer there is an address that is too long.
+        """
+        edges = [(("port", 0), ("node", j), cost) for j, cost in enumerate(costs)]
+        atlas = (("c", 1, ("x",) * len(costs), ("c",), tuple(edges + [(("port", 0), ("slot", 0, 0), down)])),)
+        expected = []
+        for level in range(200):
+            expected.append((down * level, ((0,) * level, ("port", 0))))
+            expected += [(down * level + cost, ((0,) * level, ("node", j))) for j, cost in enumerate(costs)]
+        self.check(atlas, "c", ((), ("port", 0)), down * 200 - 1, sorted(expected))
+        self.check_error(TooLarge, atlas, "c", ((), ("port", 0)), down * (200 if len(costs) == 4 else 201))
+        return atlas
+
+    def test_a_thousand_places_in_two_hundred_levels(self):
+        chain = self.check_chain([1, 2, 3, 4], 10)
+        start = ((), ("port", 0))
+        self.assertEqual(len(within(chain, "c", start, 1994)), 1000)
+        self.assertEqual(within(chain, "c", start, 1999), within(chain, "c", start, 1994))
+        self.assertEqual(len(within(chain, "c", start, 1993)), 999)
+        self.check_error(TooLarge, chain, "c", start, 2000)
+        rng = Random(42)
+        for _ in range(20):
+            down = rng.choice([2, 5, 10, 1000])
+            self.check_chain([rng.randint(1, down - 1) for _ in range(rng.randint(0, 4))], down)
+
+    def calls_within(self, *arguments):
+        """Return how many functions are called in a search; a number like this is the same on every machine."""
+        counts = [0]
+
+        def count(frame, event, argument):
+            counts[0] += event == "call"
+
+        before = sys.getprofile()
+        sys.setprofile(count)
+        try:
+            within(*arguments)
+        finally:
+            sys.setprofile(before)
+        return counts[0]
+
+    def test_deep_places_take_no_more_work(self):
+        """A search goes through the address where it starts, but not through those of all places that it finds."""
+        start = ((), ("port", 0))
+        shallow = self.calls_within(LINE, "line", start, 899)
+        deep = self.calls_within(self.check_chain([], 10), "c", start, 1999)
+        self.assertLess(shallow, 900 * 10)
+        self.assertLess(deep, 200 * 10)
 
     def test_a_place_too_deep_beside_others(self):
         top = ((0,) * 200, ("port", 0))
