@@ -101,7 +101,7 @@ def are_floors(maps, copies, tables, floors):
 
 
 def many_places(maps, copies):
-    """Return the number of the spine places: nodes and ports of these copies, and ports of the copies in their slots."""
+    """Return the number of the places of these copies and of the ports of the copies in their slots."""
     many = 0
     for address, chart in copies.items():
         outside = [name for s, name in enumerate(chart[3]) if address + (s,) not in copies]

@@ -1,7 +1,7 @@
 """Slices of routes, and routes joined one behind the other."""
 
 from slotmaps.atlases import checked_atlas
-from slotmaps.checks import is_integer, is_integer_in
+from slotmaps.checks import is_integer
 from slotmaps.errors import BadStep, NotInside, NotJoined, TooLarge
 from slotmaps.measures import MOST_ITEMS, MOST_STEPS, checked_route, item_at, item_steps
 from slotmaps.reading import place_before

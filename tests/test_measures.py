@@ -22,6 +22,7 @@ from tests.samples import (
     loop_route,
     loop_tower,
     points_of,
+    random_route,
     random_value,
     with_part_changed,
 )
@@ -112,6 +113,18 @@ class MeasureTest(unittest.TestCase):
                 depth = max([0] + [len(address) for address, _ in listed])
                 self.check(atlas, route, (costs[-1], len(listed), depth))
                 deepest = max(deepest, depth)
+        self.assertGreater(deepest, 1)
+
+    def test_random_routes(self):
+        rng = Random(204)
+        deepest = 0
+        for _ in range(300):
+            atlas = linked_atlas(rng)
+            route = random_route(rng, atlas, rng.randint(1, 9), rng.randint(1, 6))
+            listed = oracle.listed_steps(route)
+            depth = max([0] + [len(address) for address, _ in listed])
+            self.check(atlas, route, (oracle.walked(atlas, route)[1][-1], len(listed), depth))
+            deepest = max(deepest, depth)
         self.assertGreater(deepest, 1)
 
     def test_number_of_parts(self):

@@ -23,6 +23,7 @@ from tests.samples import (
     loop_route,
     loop_tower,
     points_of,
+    random_route,
     turning_atlas,
 )
 
@@ -93,6 +94,16 @@ class ReadingTest(unittest.TestCase):
         self.assertEqual(self.check_all(LOOP, parts), 398)
         for steps in (1, 2, 3, 7, 450):
             self.check_all(LOOP, loop_route(steps))
+
+    def test_random_routes(self):
+        rng = Random(403)
+        many = 0
+        for _ in range(150):
+            atlas = linked_atlas(rng)
+            route = random_route(rng, atlas, rng.randint(1, 9), rng.randint(1, 6))
+            if measure(atlas, route)[1] < 60:
+                many = max(many, self.check_all(atlas, route))
+        self.assertGreater(many, 10)
 
     def test_unused_parts(self):
         parts, _ = loop_tower(300)
