@@ -220,6 +220,16 @@ class BarsTest(unittest.TestCase):
         # With a table that allows less, the floors of the ports of the copy at (0, 0) are too far apart.
         self.check(P, INNER, 3, ({"e": ((0, 0), (0, 0))}, floors), False)
 
+    def test_tables_do_not_count_for_copies_of_the_spine(self):
+        # The entry 3 bounds the floors of the ports of the copy at (0, 0), but not of the copy at (0,): 2 and 8.
+        tables = {"e": ((0, 3), (None, 0))}
+        _, floors = certificate(E, "e", P, INNER)
+        floors[((0, 0), ("port", 1))] = 7
+        self.assertEqual((floors[((0,), ("port", 0))], floors[((0,), ("port", 1))]), (2, 8))
+        self.check(P, INNER, 3, (tables, floors), True)
+        self.check(P, INNER, 3, (tables, {**floors, ((0, 0), ("port", 1)): 8}), False)
+        self.check(P, INNER, 3, (tables, {**floors, ((0,), ("port", 1)): 9}), False)
+
     def test_tables_that_are_not_supporting(self):
         _, floors = self.paper()
         for tables in (

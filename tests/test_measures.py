@@ -13,6 +13,7 @@ from tests.samples import (
     ODD_VALUES,
     PORT,
     SLOT,
+    UP,
     B,
     E,
     K,
@@ -257,6 +258,19 @@ class MeasureTest(unittest.TestCase):
             for end in (("slot", 1, 0), ("slot", 1, 1), ("port", 1)):
                 for p in range(4):
                     self.check_bad(TWO, inner + [("p", start, end, (("call", 1, p),))], 4)
+
+    def test_calls_in_another_slot_with_the_same_map(self):
+        still = ("u", ("port", 0), ("port", 0), ())
+        for s in (0, 1):
+            for i in (0, 1):
+                point = ("slot", s, i)
+                route = [still, ("u", point, point, (("call", s, 0),))]
+                if i == 0:
+                    self.check(UP, route, (0, 0, 0))
+                else:
+                    self.check_bad(UP, route, 1)
+                for end in (point, ("slot", 1 - s, i)):
+                    self.check_bad(UP, [still, ("u", point, end, (("call", 1 - s, 0),))], 1)
 
     def test_parts_that_are_no_parts(self):
         for value in ODD_VALUES + [BASE[0][:3], BASE[0] + ((),), list(BASE[0]), [BASE[0]], {}, E, K]:
