@@ -13,8 +13,14 @@ def cost_between(atlas, root, first, second):
     maps = checked_maps(atlas, root)
     check_place(maps, root, first)
     check_place(maps, root, second)
-    found = Crossing(Insides(maps), root, first, second).cheapest()
-    return None if found is None else found[0]
+    return crossing_between(Insides(maps), root, first, second).cost()
+
+
+def crossing_between(insides, root, first, second):
+    """Return the paths from one place to another that may use all copies."""
+    first_names = names_along(insides.maps, root, first[0])
+    second_names = names_along(insides.maps, root, second[0])
+    return Crossing(insides, first, second, first_names, second_names)
 
 
 def outer_table(atlas, root, address):

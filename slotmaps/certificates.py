@@ -1,16 +1,16 @@
 """Certificates that no path from one place to another costs less.
 
-The copies of the spine are those around the two places. Floors bound what paths cost up to the places of these
-copies; the tables bound what paths cost inside all other copies.
+Floors bound what paths cost up to the places of the copies of the spine; the tables bound what paths cost inside all
+other copies.
 """
 
 from slotmaps.atlases import checked_maps, points_of
 from slotmaps.checks import is_count, is_tuple
-from slotmaps.crossings import start_costs
 from slotmaps.errors import BadCost
 from slotmaps.graphs import entries
 from slotmaps.insides import Insides
-from slotmaps.places import check_place, names_along, place_of
+from slotmaps.places import check_place, place_of
+from slotmaps.spines import spine, spine_costs
 from slotmaps.tables import is_at_most, supports
 
 
@@ -45,45 +45,6 @@ def bars(atlas, root, first, second, cost, value):
         and floors[first] == 0
         and is_at_most(cost, floors[second])
     )
-
-
-def spine(maps, root, first, second):
-    """Return a dict from the address of each copy around the two places to its map, each copy before those in it."""
-    copies = {}
-    for address, _ in (first, second):
-        for level, name in enumerate(names_along(maps, root, address)):
-            copies[address[:level]] = maps[name]
-    return copies
-
-
-def spine_costs(insides, root, copies, first):
-    """Return a dict from the address of each copy to the least costs of its points, from the first place."""
-    starts = start_costs(insides, names_along(insides.maps, root, first[0]), first)
-    costs = {}
-    for address, chart in copies.items():
-        level = len(address)
-        known = {}
-        if address == first[0][:level]:
-            known = {point: cost for point, (cost, _) in starts[level].items()}
-        if address:
-            # A path that comes from outside the copy has come in by one of its ports.
-            around = costs[address[:-1]]
-            for i in range(chart[1]):
-                cost = around.get(("slot", address[-1], i))
-                if cost is not None:
-                    known[("port", i)] = min(cost, known.get(("port", i), cost))
-        costs[address] = spread_costs(insides, chart[0], known)
-    return costs
-
-
-def spread_costs(insides, name, known):
-    """Return the least costs of the points of a copy, by paths inside it, from points with these costs."""
-    costs = {}
-    for start, before in known.items():
-        for point, cost in insides.row(name, start).items():
-            if point not in costs or before + cost < costs[point]:
-                costs[point] = before + cost
-    return costs
 
 
 def are_floors(maps, copies, tables, floors):

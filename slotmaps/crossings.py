@@ -5,19 +5,25 @@ inside that copy, and enters the copies around the second place one by one. So a
 paths inside one copy cost. The level of a copy around a place is the length of its address.
 """
 
-from slotmaps.places import names_along
-
 
 class Crossing:
-    """The paths from one place to another."""
+    """The paths from one place to another; for each level around a place there is the kind of the copy.
 
-    def __init__(self, insides, root, first, second):
+    Insides, or others that give the row and the number of ports of a kind, say what the paths inside a copy cost.
+    """
+
+    def __init__(self, insides, first, second, first_kinds, second_kinds):
         self.insides = insides
-        self.first_names = names_along(insides.maps, root, first[0])
-        self.second_names = names_along(insides.maps, root, second[0])
+        self.first_kinds = first_kinds
+        self.second_kinds = second_kinds
         self.common = common_length(first[0], second[0])
-        self.starts = start_costs(insides, self.first_names, first)
-        self.ends = end_costs(insides, self.second_names, second)
+        self.starts = start_costs(insides, first_kinds, first)
+        self.ends = end_costs(insides, second_kinds, second)
+
+    def cost(self):
+        """Return the least cost of a path, or None if there is no path."""
+        found = self.cheapest()
+        return None if found is None else found[0]
 
     def cheapest(self):
         """Return (cost, level, start, end) of a path of least cost, or None if there is no path.
@@ -26,9 +32,9 @@ class Crossing:
         """
         best = None
         for level in range(self.common + 1):
-            name = self.first_names[level]
+            kind = self.first_kinds[level]
             for start, (before, _) in self.starts[level].items():
-                row = self.insides.row(name, start)
+                row = self.insides.row(kind, start)
                 for end, (behind, _) in self.ends[level].items():
                     if end in row and (best is None or before + row[end] + behind < best[0]):
                         best = (before + row[end] + behind, level, start, end)
@@ -66,7 +72,7 @@ def common_length(address, other):
     return length
 
 
-def start_costs(insides, names, place):
+def start_costs(insides, kinds, place):
     """Return, for each level of a place, how cheaply paths from the place come to its copy from the one below.
 
     This is a dict from points of the copy to (cost, point where the path comes to the copy below). The last level
@@ -75,11 +81,11 @@ def start_costs(insides, names, place):
     address, point = place
     levels = [{point: (0, None)}]
     for level in reversed(range(len(address))):
-        name = names[level + 1]
+        kind = kinds[level + 1]
         found = {}
         for start, (before, _) in levels[-1].items():
-            row = insides.row(name, start)
-            for i in range(insides.maps[name][1]):
+            row = insides.row(kind, start)
+            for i in range(insides.many_ports(kind)):
                 if ("port", i) in row:
                     keep_cheaper(found, ("slot", address[level], i), before + row[("port", i)], start)
         levels.append(found)
@@ -87,7 +93,7 @@ def start_costs(insides, names, place):
     return levels
 
 
-def end_costs(insides, names, place):
+def end_costs(insides, kinds, place):
     """Return, for each level of a place, how cheaply paths to the place go from its copy by the one below.
 
     This is a dict from points of the copy to (cost, point where the path leaves the copy below). The last level
@@ -96,10 +102,10 @@ def end_costs(insides, names, place):
     address, point = place
     levels = [{point: (0, None)}]
     for level in reversed(range(len(address))):
-        name = names[level + 1]
+        kind = kinds[level + 1]
         found = {}
-        for i in range(insides.maps[name][1]):
-            row = insides.row(name, ("port", i))
+        for i in range(insides.many_ports(kind)):
+            row = insides.row(kind, ("port", i))
             for end, (behind, _) in levels[-1].items():
                 if end in row:
                     keep_cheaper(found, ("slot", address[level], i), row[end] + behind, end)

@@ -19,6 +19,10 @@ class Insides:
         self.graphs = {}
         self.moves = {}
 
+    def many_ports(self, name):
+        """Return the number of ports of a map."""
+        return self.maps[name][1]
+
     def port_table(self, name):
         """Return the port table of a map."""
         ports = [("port", i) for i in range(self.maps[name][1])]

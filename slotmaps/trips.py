@@ -1,8 +1,8 @@
 """Trips: routes one behind the other, each in a copy of its own, from place to place."""
 
 from slotmaps.atlases import checked_maps
+from slotmaps.between import crossing_between
 from slotmaps.checks import is_tuple
-from slotmaps.crossings import Crossing
 from slotmaps.errors import BadRoute, BadTrip
 from slotmaps.insides import Insides
 from slotmaps.measures import checked_route
@@ -57,7 +57,7 @@ def best_trip(atlas, root, first, second):
     check_place(maps, root, first)
     check_place(maps, root, second)
     insides = Insides(maps)
-    crossing = Crossing(insides, root, first, second)
+    crossing = crossing_between(insides, root, first, second)
     found = crossing.cheapest()
     if found is None:
         return None
@@ -65,8 +65,8 @@ def best_trip(atlas, root, first, second):
     up = crossing.ways_up(level, start) + [(level, start, end)]
     down = crossing.ways_down(level, end)
     return (
-        legs_of(insides, crossing.first_names, first[0], up)
-        + legs_of(insides, crossing.second_names, second[0], down)
+        legs_of(insides, crossing.first_kinds, first[0], up)
+        + legs_of(insides, crossing.second_kinds, second[0], down)
     )
 
 

@@ -7,8 +7,12 @@ from pathlib import Path
 from slotmaps.atlases import atlas_error, is_atlas
 from slotmaps.between import cost_between, outer_table
 from slotmaps.certificates import bars, certificate
+from slotmaps.counting import count_at, count_mod
 from slotmaps.cutting import join_routes, slice_route
+from slotmaps.labels import nearest
+from slotmaps.limits import cost_avoiding, cost_to_depth, levels_between
 from slotmaps.measures import measure
+from slotmaps.meetings import meeting
 from slotmaps.places import is_place, map_at, steps_from, within
 from slotmaps.reading import cost_at, point_at, step_at
 from slotmaps.routes import best_route, count_best
@@ -109,6 +113,32 @@ EXAMPLES = r"""
     >>> paper = certificate(E, "e", p, q)
     >>> [bars(E, "e", p, q, 6, paper), bars(E, "e", p, q, 7, paper), bars(E, "e", p, q, None, paper)]
     [True, False, False]
+
+[34]
+    >>> nearest(E, "e", ((), ("port", 0)), "x")
+    (1, ((), ('node', 0)))
+
+[35]
+    >>> count_at(E, "e", ((), ("port", 0)), "x", 9)
+    1
+
+[36]
+    >>> count_mod(E, "e", ((), ("port", 0)), None, 10 ** 18, 7)
+    1
+
+[37]
+    >>> meeting(E, "e", ((), ("node", 0)), ((0,), ("port", 0)))
+    (1, ((0,), ('port', 0)))
+
+[49]
+    >>> cost_to_depth(B, "a", ((), ("port", 0)), ((), ("port", 1)), 0)
+    9
+    >>> levels_between(B, "a", ((), ("port", 0)), ((), ("port", 1)))
+    [(0, 9), (1, 5)]
+
+[50]
+    >>> cost_avoiding(B, "a", ((), ("port", 0)), ((), ("port", 1)), [(0,)])
+    9
 """
 NAMES = {
     "samples": samples,
@@ -136,6 +166,13 @@ NAMES = {
     "best_trip": best_trip,
     "certificate": certificate,
     "bars": bars,
+    "nearest": nearest,
+    "count_at": count_at,
+    "count_mod": count_mod,
+    "meeting": meeting,
+    "cost_to_depth": cost_to_depth,
+    "levels_between": levels_between,
+    "cost_avoiding": cost_avoiding,
 }
 
 
@@ -149,11 +186,11 @@ class ExamplesTest(unittest.TestCase):
         self.assertEqual((result.attempted, len(test.examples)), (many, many))
 
     def test_document(self):
-        self.check(EXAMPLES, dict(NAMES), 27)
+        self.check(EXAMPLES, dict(NAMES), 34)
 
     def test_readme(self):
         readme = Path(__file__).resolve().parent.parent / "README.md"
-        self.check(readme.read_text(encoding="utf-8"), {}, 20)
+        self.check(readme.read_text(encoding="utf-8"), {}, 29)
 
 
 if __name__ == "__main__":

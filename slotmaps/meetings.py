@@ -1,0 +1,95 @@
+"""The place where two travellers meet at the least total cost."""
+
+from heapq import heapify, heappop, heappush
+
+from slotmaps.atlases import checked_maps
+from slotmaps.insides import Insides
+from slotmaps.places import check_place
+from slotmaps.ranks import as_answer, lesser, moved_down, moved_out
+from slotmaps.spines import spine, spine_costs
+
+
+def meeting(atlas, root, first, second):
+    """Return (cost, place) of the place that both travellers reach at the least total cost, or None."""
+    maps = checked_maps(atlas, root)
+    check_place(maps, root, first)
+    check_place(maps, root, second)
+    insides = Insides(maps)
+    copies = spine(maps, root, first, second)
+    first_costs = spine_costs(insides, root, copies, first)
+    second_costs = spine_costs(insides, root, copies, second)
+    inner = meetings_inside(insides)
+    best = None
+    for address, chart in copies.items():
+        # The copies of the spine have costs of their own.
+        slots = [s for s in range(len(chart[3])) if address + (s,) not in copies]
+        found = best_meeting(maps, inner, chart, slots, first_costs[address], second_costs[address])
+        if found is not None:
+            best = lesser(best, moved_down(found, 0, address))
+    return as_answer(best)
+
+
+def meetings_inside(insides):
+    """Return the best meetings of two travellers who come into a copy by ports of it and do not leave it.
+
+    This is a dict with keys (name, i, j), where i is at most j. The meetings are found in ascending order: one in
+    the copy in a slot is found for the copy around only after it was found there, where it costs less.
+    """
+    waiting = {}
+    queue = []
+    for name, i, j in port_pairs(insides.maps):
+        row = insides.row(name, ("port", i))
+        other_row = insides.row(name, ("port", j))
+        queue.extend([(found, name, i, j) for found in meetings_in(row, other_row)])
+        chart = insides.maps[name]
+        for cost, s, inner in ways_in(insides.maps, chart, range(len(chart[3])), row, other_row):
+            waiting.setdefault(inner, []).append((cost, s, name, i, j))
+    heapify(queue)
+    settled = {}
+    while queue:
+        found, name, i, j = heappop(queue)
+        if (name, i, j) in settled:
+            continue
+        settled[(name, i, j)] = found
+        for cost, s, outer, outer_i, outer_j in waiting.get((name, i, j), []):
+            heappush(queue, (moved_out(found, cost, s), outer, outer_i, outer_j))
+    return settled
+
+
+def best_meeting(maps, inner, chart, slots, row, other_row):
+    """Return the best meeting in a copy itself and in some of its slots, or None, by two rows of least costs."""
+    best = None
+    for found in meetings_in(row, other_row):
+        best = lesser(best, found)
+    for cost, s, key in ways_in(maps, chart, slots, row, other_row):
+        if key in inner and (best is None or cost <= best[0]):
+            best = lesser(best, moved_out(inner[key], cost, s))
+    return best
+
+
+def port_pairs(maps):
+    """Return (name, i, j) for all ports i and j of each map, with i at most j."""
+    return [(name, i, j) for name, chart in maps.items() for i in range(chart[1]) for j in range(i, chart[1])]
+
+
+def meetings_in(row, other_row):
+    """Return the meetings in a copy itself, by two rows of least costs; points of slots are left to their copies."""
+    return [
+        (cost + other_row[point], 0, (), point)
+        for point, cost in row.items()
+        if point[0] != "slot" and point in other_row
+    ]
+
+
+def ways_in(maps, chart, slots, row, other_row):
+    """Return (total cost, slot, key of the meetings inside) for the ways of two travellers into some slots."""
+    ways = []
+    for s in slots:
+        name = chart[3][s]
+        points = [("slot", s, i) for i in range(maps[name][1])]
+        others = [(point[2], other_row[point]) for point in points if point in other_row]
+        for point in points:
+            if point in row:
+                i, cost = point[2], row[point]
+                ways.extend([(cost + price, s, (name, min(i, j), max(i, j))) for j, price in others])
+    return ways
