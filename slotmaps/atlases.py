@@ -4,7 +4,7 @@ A variable that holds a map is called chart, since map is the name of a builtin.
 """
 
 from slotmaps.checks import is_index, is_integer_in, is_name, is_names, is_tuple
-from slotmaps.errors import BadAtlas, UnknownMap
+from slotmaps.errors import BadAtlas, BadPoint, UnknownMap
 
 MOST_MAPS = 8
 MOST_PORTS = 4
@@ -45,10 +45,21 @@ def checked_atlas(atlas):
 def checked_maps(atlas, name):
     """Return the maps of the atlas by name; raise BadAtlas, then UnknownMap for the name."""
     maps = checked_atlas(atlas)
+    check_map_name(maps, name)
+    return maps
+
+
+def check_map_name(maps, name):
+    """Raise UnknownMap if the value is not the name of one of these maps."""
     # Only a string is looked up: other values may have no hash.
     if not isinstance(name, str) or name not in maps:
         raise UnknownMap()
-    return maps
+
+
+def check_points(maps, name, first, second):
+    """Raise BadPoint if one of two values is not a point of the map."""
+    if not is_point(maps, maps[name], first) or not is_point(maps, maps[name], second):
+        raise BadPoint()
 
 
 def maps_by_name(atlas):

@@ -1,7 +1,7 @@
 """Routes of least cost inside a copy, and the number of paths of least cost."""
 
-from slotmaps.atlases import checked_maps, is_point
-from slotmaps.errors import BadPoint, TooLarge
+from slotmaps.atlases import check_points, checked_maps
+from slotmaps.errors import TooLarge
 from slotmaps.insides import Insides
 
 MOST_WAYS = (10**60) ** 5
@@ -28,12 +28,6 @@ def count_best(atlas, name, start, end):
     if many > MOST_WAYS:
         raise TooLarge()
     return many
-
-
-def check_points(maps, name, start, end):
-    """Raise BadPoint if one of two values is not a point of the map."""
-    if not is_point(maps, maps[name], start) or not is_point(maps, maps[name], end):
-        raise BadPoint()
 
 
 def cheapest_route(insides, name, start, end):

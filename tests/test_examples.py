@@ -15,8 +15,12 @@ from slotmaps.measures import measure
 from slotmaps.meetings import meeting
 from slotmaps.places import is_place, map_at, steps_from, within
 from slotmaps.reading import cost_at, point_at, step_at
+from slotmaps.replacing import same_outside, summarized, with_edge, with_slot, without_edge
 from slotmaps.routes import best_route, count_best
+from slotmaps.shell import Shell
 from slotmaps.tables import depth_profile, is_supporting, limited_tables, port_tables
+from slotmaps.texts import format_atlas, format_place, parse_place
+from slotmaps.travellers import Traveller
 from slotmaps.trips import best_trip, measure_trip
 from tests import samples
 
@@ -130,6 +134,47 @@ EXAMPLES = r"""
     >>> meeting(E, "e", ((), ("node", 0)), ((0,), ("port", 0)))
     (1, ((0,), ('port', 0)))
 
+[38]
+    >>> same_outside(B, "a", "b")
+    False
+
+[39]
+    >>> summarized(E)
+    (('e', 2, (), (), ((('port', 0), ('port', 1), 6),)),)
+
+[40]
+    >>> port_tables(with_slot(B, "a", 0, "a"))["a"]
+    ((0, 9), (None, 0))
+
+[41]
+    >>> port_tables(with_edge(E, "e", ("node", 0), ("port", 1), 4))
+    {'e': ((0, 5), (None, 0))}
+    >>> port_tables(without_edge(E, "e", ("node", 0), ("port", 1)))
+    {'e': ((0, None), (None, 0))}
+
+[43]
+    >>> t = Traveller(E, "e", ((), ("port", 0)))
+    >>> t.move(((0,), ("node", 0)))
+    >>> [t.here(), t.spent(), t.history()]
+    [((0,), ('node', 0)), 3, [('move', ((0,), ('node', 0)))]]
+
+[44]
+    >>> format_atlas(E)
+    'map e 2\nnode x\nslot e\nedge n0 p1 5\nedge n0 s0.0 1\nedge p0 n0 1\nedge s0.1 p1 1'
+    >>> format_place(((0, 0), ("node", 0)))
+    '0.0/n0'
+
+[45]
+    >>> parse_place("/p1")
+    ((), ('port', 1))
+
+[48]
+    >>> s = Shell()
+    >>> s.run("load\n" + format_atlas(E))
+    'ok'
+    >>> [s.run("table e"), s.run("cost e 0.0/n0 /p1"), s.run("enter e /p0"), s.run("nearest x")]
+    ['0 6; - 0', '7', 'ok', '1 /n0']
+
 [49]
     >>> cost_to_depth(B, "a", ((), ("port", 0)), ((), ("port", 1)), 0)
     9
@@ -173,6 +218,16 @@ NAMES = {
     "cost_to_depth": cost_to_depth,
     "levels_between": levels_between,
     "cost_avoiding": cost_avoiding,
+    "same_outside": same_outside,
+    "summarized": summarized,
+    "with_slot": with_slot,
+    "with_edge": with_edge,
+    "without_edge": without_edge,
+    "Traveller": Traveller,
+    "format_atlas": format_atlas,
+    "format_place": format_place,
+    "parse_place": parse_place,
+    "Shell": Shell,
 }
 
 
@@ -186,11 +241,11 @@ class ExamplesTest(unittest.TestCase):
         self.assertEqual((result.attempted, len(test.examples)), (many, many))
 
     def test_document(self):
-        self.check(EXAMPLES, dict(NAMES), 34)
+        self.check(EXAMPLES, dict(NAMES), 48)
 
     def test_readme(self):
         readme = Path(__file__).resolve().parent.parent / "README.md"
-        self.check(readme.read_text(encoding="utf-8"), {}, 29)
+        self.check(readme.read_text(encoding="utf-8"), {}, 47)
 
 
 if __name__ == "__main__":
