@@ -49,10 +49,25 @@ def join_routes(atlas, first, second):
         or first_steps + second_steps > MOST_STEPS
     ):
         raise TooLarge()
-    # The called parts of the second route come to stand behind those of the first.
-    moved = len(first) - 1
-    parts = first[:-1] + [part[:3] + (moved_items(part[3], moved),) for part in second[:-1]]
-    return parts + [(name, start, end, items + moved_items(other_items, moved))]
+    called, other_called = called_parts(first), called_parts(second)
+    # The fewer of the called parts come to stand behind the others, where they have to be written anew.
+    if len(called) < len(other_called):
+        items = moved_items(items, len(other_called))
+        parts = other_called + moved_parts(called, len(other_called))
+    else:
+        other_items = moved_items(other_items, len(called))
+        parts = called + moved_parts(other_called, len(called))
+    return parts + [(name, start, end, items + other_items)]
+
+
+def called_parts(route):
+    """Return the parts before the last one, or none of them if the last one calls none."""
+    return route[:-1] if [item for item in route[-1][3] if item[0] == "call"] else []
+
+
+def moved_parts(parts, many):
+    """Return the parts for a route in which they stand so many places further behind."""
+    return [(name, start, end, moved_items(items, many)) for name, start, end, items in parts]
 
 
 def moved_items(items, many):

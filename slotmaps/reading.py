@@ -32,15 +32,7 @@ def cost_at(atlas, route, t):
     found = checked_route(maps, route)
     if not is_index(t, found[-1][0] + 1):
         raise BadStep()
-    cost = 0
-    position = len(route) - 1
-    while t > 0:
-        name, _, _, items = route[position]
-        k, t = item_at(found, items, t)
-        cost += sum([item_cost(maps[name], found, item) for item in items[:k]])
-        if t > 0:
-            position = items[k][2]
-    return cost
+    return cost_before(maps, route, found, t)
 
 
 def found_step(route, found, t):
@@ -64,6 +56,19 @@ def place_before(maps, route, found, t):
     return place_of(address, maps[name][4][e][0])
 
 
-def item_cost(chart, found, item):
-    """Return the cost of an item of a part of a route."""
-    return chart[4][item[1]][2] if item[0] == "edge" else found[item[2]][1]
+def cost_before(maps, route, found, t):
+    """Return the cost of the first t steps of the path of a route."""
+    cost = 0
+    position = len(route) - 1
+    while t > 0:
+        name, _, _, items = route[position]
+        edges = maps[name][4]
+        for item in items:
+            many, price = (1, edges[item[1]][2]) if item[0] == "edge" else found[item[2]][:2]
+            if t < many:
+                break
+            t -= many
+            cost += price
+        # Steps are left only where the loop has come to a call of which not all steps count.
+        position = item[2] if t > 0 else position
+    return cost

@@ -47,7 +47,7 @@ def measure_leg(maps, root, place, value):
     target = place_of(address, end)
     if last_name != name or place_of(address, start) != place or len(target[0]) > MOST_INDEXES:
         return None
-    steps, cost, _ = found[-1]
+    steps, cost, _, _, _ = found[-1]
     return (target, cost, steps)
 
 
