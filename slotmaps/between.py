@@ -5,14 +5,12 @@ from slotmaps.crossings import Crossing
 from slotmaps.errors import BadAddress
 from slotmaps.graphs import entries, least_costs, slot_graph, table_of
 from slotmaps.insides import Insides
-from slotmaps.places import check_place, names_along, passed_copy
+from slotmaps.places import checked_places, names_along, passed_copy
 
 
 def cost_between(atlas, root, first, second):
     """Return the least cost of a path from one place to the other, or None if there is none."""
-    maps = checked_maps(atlas, root)
-    check_place(maps, root, first)
-    check_place(maps, root, second)
+    maps = checked_places(atlas, root, first, second)
     return crossing_between(Insides(maps), root, first, second).cost()
 
 

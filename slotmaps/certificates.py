@@ -4,21 +4,19 @@ Floors bound what paths cost up to the places of the copies of the spine; the ta
 other copies.
 """
 
-from slotmaps.atlases import checked_maps, points_of
+from slotmaps.atlases import points_of
 from slotmaps.checks import is_count, is_tuple
 from slotmaps.errors import BadCost
 from slotmaps.graphs import entries
 from slotmaps.insides import Insides
-from slotmaps.places import check_place, place_of
+from slotmaps.places import checked_places, place_of
 from slotmaps.spines import spine, spine_costs
 from slotmaps.tables import is_at_most, supports
 
 
 def certificate(atlas, root, first, second):
     """Return a certificate for two places in which the floor of the second one is their least cost."""
-    maps = checked_maps(atlas, root)
-    check_place(maps, root, first)
-    check_place(maps, root, second)
+    maps = checked_places(atlas, root, first, second)
     insides = Insides(maps)
     copies = spine(maps, root, first, second)
     costs = spine_costs(insides, root, copies, first)
@@ -31,9 +29,7 @@ def certificate(atlas, root, first, second):
 
 def bars(atlas, root, first, second, cost, value):
     """Return whether the value is a certificate for two places with a floor of the second one of at least the cost."""
-    maps = checked_maps(atlas, root)
-    check_place(maps, root, first)
-    check_place(maps, root, second)
+    maps = checked_places(atlas, root, first, second)
     if cost is not None and not is_count(cost):
         raise BadCost()
     if not is_tuple(value, 2, 2):

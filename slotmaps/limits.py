@@ -1,12 +1,11 @@
 """Least costs of paths between places that may not use all copies."""
 
-from slotmaps.atlases import checked_maps
 from slotmaps.checks import is_count
 from slotmaps.crossings import Crossing
 from slotmaps.errors import BadAddress, BadDepth
 from slotmaps.insides import Insides
 from slotmaps.kinds import Kinds
-from slotmaps.places import check_place, names_along, passed_copy
+from slotmaps.places import checked_places, names_along, passed_copy
 from slotmaps.tables import tables_by_depth
 
 MOST_CLOSED = 20
@@ -14,9 +13,7 @@ MOST_CLOSED = 20
 
 def cost_to_depth(atlas, root, first, second, depth):
     """Return the least cost of a path that uses copies with addresses of at most so many indexes, or None."""
-    maps = checked_maps(atlas, root)
-    check_place(maps, root, first)
-    check_place(maps, root, second)
+    maps = checked_places(atlas, root, first, second)
     if not is_count(depth):
         raise BadDepth()
     shallow = ShallowCopies(maps, tables_by_depth(maps, depth - 1))
@@ -25,9 +22,7 @@ def cost_to_depth(atlas, root, first, second, depth):
 
 def levels_between(atlas, root, first, second):
     """Return (depth, cost) for each depth that makes the least cost between the places lower."""
-    maps = checked_maps(atlas, root)
-    check_place(maps, root, first)
-    check_place(maps, root, second)
+    maps = checked_places(atlas, root, first, second)
     if first == second:
         return [(0, 0)]
     shallow = ShallowCopies(maps, tables_by_depth(maps, None))
@@ -86,9 +81,7 @@ class ShallowCopies:
 
 def cost_avoiding(atlas, root, first, second, closed):
     """Return the least cost of a path that uses none of the copies at some addresses and inside them, or None."""
-    maps = checked_maps(atlas, root)
-    check_place(maps, root, first)
-    check_place(maps, root, second)
+    maps = checked_places(atlas, root, first, second)
     if not is_closed_list(maps, root, closed):
         raise BadAddress()
     open_copies = OpenCopies(maps, root, closed)

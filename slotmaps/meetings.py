@@ -2,18 +2,15 @@
 
 from heapq import heapify, heappop, heappush
 
-from slotmaps.atlases import checked_maps
 from slotmaps.insides import Insides
-from slotmaps.places import check_place
+from slotmaps.places import checked_places
 from slotmaps.ranks import as_answer, lesser, moved_down, moved_out
 from slotmaps.spines import spine, spine_costs
 
 
 def meeting(atlas, root, first, second):
     """Return (cost, place) of the place that both travellers reach at the least total cost, or None."""
-    maps = checked_maps(atlas, root)
-    check_place(maps, root, first)
-    check_place(maps, root, second)
+    maps = checked_places(atlas, root, first, second)
     insides = Insides(maps)
     copies = spine(maps, root, first, second)
     first_costs = spine_costs(insides, root, copies, first)

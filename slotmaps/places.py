@@ -108,6 +108,14 @@ def check_place(maps, root, value):
         raise BadPlace()
 
 
+def checked_places(atlas, root, first, second):
+    """Return the maps of the atlas by name; raise BadAtlas, UnknownMap, then BadPlace for either place."""
+    maps = checked_maps(atlas, root)
+    check_place(maps, root, first)
+    check_place(maps, root, second)
+    return maps
+
+
 def place_of(address, point):
     """Return the place of any point of the copy at the address."""
     if point[0] == "slot":

@@ -6,7 +6,7 @@ from slotmaps.checks import is_tuple
 from slotmaps.errors import BadRoute, BadTrip
 from slotmaps.insides import Insides
 from slotmaps.measures import checked_route
-from slotmaps.places import MOST_INDEXES, check_place, passed_copy, place_of
+from slotmaps.places import MOST_INDEXES, check_place, checked_places, passed_copy, place_of
 from slotmaps.routes import cheapest_route
 
 MOST_LEGS = 500
@@ -53,9 +53,7 @@ def measure_leg(maps, root, place, value):
 
 def best_trip(atlas, root, first, second):
     """Return a trip of least cost from one place to the other, or None if there is none."""
-    maps = checked_maps(atlas, root)
-    check_place(maps, root, first)
-    check_place(maps, root, second)
+    maps = checked_places(atlas, root, first, second)
     insides = Insides(maps)
     crossing = crossing_between(insides, root, first, second)
     found = crossing.cheapest()

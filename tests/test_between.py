@@ -8,6 +8,7 @@ from slotmaps.errors import BadAddress, BadAtlas, BadPlace, TooLarge, UnknownMap
 from slotmaps.places import within
 from slotmaps.tables import port_tables
 from tests import oracle
+from tests.drawn import BAD_PLACES, drawn_atlas
 from tests.expansion import copies, places_of
 from tests.samples import (
     FULL,
@@ -18,36 +19,13 @@ from tests.samples import (
     E,
     linked_atlas,
     points_of,
-    random_atlas,
     random_place,
     random_places,
     random_value,
-    turning_atlas,
     winding_atlas,
 )
 
 WINDING = winding_atlas()
-BAD_PLACES = ODD_VALUES + [
-    ((0,) * 201, ("port", 0)),
-    ((0,), ("slot", 0, 0)),
-    ((1,), ("port", 0)),
-    ((True,), ("port", 0)),
-    ((False,), ("port", 0)),
-    ((0,), ("node", True)),
-    ([0], ("port", 0)),
-    [(0,), ("port", 0)],
-    ((0,), ("port", 2)),
-]
-
-
-def drawn_atlas(rng):
-    """Return an atlas of any kind."""
-    kind = rng.randrange(4)
-    if kind == 0:
-        return random_atlas(rng, most_maps=4, most_cost=rng.choice([1, 9, 1000000]))
-    if kind == 1:
-        return turning_atlas(rng)
-    return linked_atlas(rng, most_slots=rng.choice([1, 2, 4]), most_cost=rng.choice([1, 3, 1000000]), most_ports=4)
 
 
 class CostBetweenTest(unittest.TestCase):

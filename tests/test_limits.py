@@ -201,6 +201,13 @@ class LevelsBetweenTest(unittest.TestCase):
             self.check(E, "e", P0, ((0,) * length, ("port", 0)), [(length - 1, 2 * length)])
             self.check(E, "e", ((0,) * length, ("port", 1)), P1, [(length - 1, length)])
 
+    def test_a_change_that_no_port_table_shows(self):
+        # From node to node a way leads through a copy of "a" of which the table changes last.
+        nodes = ("y", 1, ("x", "x"), ("a",), ((("node", 0), ("slot", 0, 0), 1), (("slot", 0, 1), ("node", 1), 1)))
+        atlas = B + (nodes,)
+        self.assertEqual(limited_tables(atlas, 1), limited_tables(atlas, 2))
+        self.check(atlas, "y", ((), ("node", 0)), ((), ("node", 1)), [(1, 11), (2, 7)])
+
     def test_changes_of_the_cost(self):
         rng = Random(951)
         counts = {}

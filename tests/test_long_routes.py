@@ -1,6 +1,5 @@
 """Long routes: [22], [25], [26] and [27] for routes of hundreds and thousands of parts."""
 
-import sys
 import unittest
 from random import Random
 
@@ -8,7 +7,8 @@ from slotmaps.cutting import join_routes, slice_route
 from slotmaps.errors import BadRoute, NotInside, NotJoined, TooLarge
 from slotmaps.measures import measure
 from slotmaps.reading import cost_at, point_at, step_at
-from tests.samples import E, linked_atlas, points_of, turning_atlas
+from tests.samples import LOOP, E, linked_atlas, loop_chain, points_of, turning_atlas
+from tests.work import many_calls
 
 P0, P1 = ("port", 0), ("port", 1)
 MANY = 10**300
@@ -165,9 +165,9 @@ class LongRoutesTest(unittest.TestCase):
 
     def test_drawn_routes_joined_and_cut(self):
         joins = cuts = 0
-        for rng, atlas, route in self.drawn(1502, 60, 300, 600):
+        for rng, atlas, route in self.drawn(1502, 60, 2, 600):
             name, _, end, _ = route[-1]
-            other = long_route(rng, atlas, rng.randint(1, 300), 4, (name, end))
+            other = long_route(rng, atlas, rng.choice([1, 5, rng.randint(1, 300)]), 4, (name, end))
             cost, steps, depth = measured(atlas, route)
             more, many, inner = measured(atlas, other)
             if steps + many > MANY:
@@ -189,6 +189,21 @@ class LongRoutesTest(unittest.TestCase):
                 self.assertEqual(step_at(atlas, cut, u - t - 1), step_at(atlas, route, u - 1))
             cuts += 1
         self.assertGreater(min(joins, cuts), 10)
+
+    def test_either_of_the_joined_routes_may_be_longer(self):
+        for low, high in ((2, 50), (50, 2), (7, 7), (1, 9), (9, 1), (2, 3), (400, 499)):
+            first, second = loop_chain(low), loop_chain(high)
+            # At the bottom of the second route, the first part goes around twice.
+            second[0] = second[0][:3] + (second[0][3] * 2,)
+            before = repr((first, second))
+            joined = join_routes(LOOP, first, second)
+            steps, more = 2 * low, 2 * high + 2
+            self.assertEqual(measure(LOOP, joined), (12 * (low + high) - 9, steps + more, max(low, high) - 1))
+            for t in range(0, steps + more, 7):
+                expected = step_at(LOOP, first, t) if t < steps else step_at(LOOP, second, t - steps)
+                self.assertEqual(step_at(LOOP, joined, t), expected)
+            self.assertLessEqual(len(joined), low + high)
+            self.assertEqual(repr((first, second)), before)
 
     def test_a_wrong_part(self):
         rng = Random(1503)
@@ -259,22 +274,7 @@ class LongRoutesTest(unittest.TestCase):
             (cost_at, (E, route, 8000)),
             (point_at, (E, route, 2)),
         ):
-            self.assertLess(self.many_calls(function, *arguments), 3000 * 3)
-
-    def many_calls(self, function, *arguments):
-        """Return how many functions of the package are called."""
-        counts = [0]
-
-        def count(frame, event, argument):
-            counts[0] += event == "call"
-
-        before = sys.getprofile()
-        sys.setprofile(count)
-        try:
-            function(*arguments)
-        finally:
-            sys.setprofile(before)
-        return counts[0]
+            self.assertLess(many_calls(function, *arguments), 3000 * 3)
 
 
 if __name__ == "__main__":

@@ -259,6 +259,45 @@ class MeasureTest(unittest.TestCase):
                 for p in range(4):
                     self.check_bad(TWO, inner + [("p", start, end, (("call", 1, p),))], 4)
 
+    def test_points_with_bools(self):
+        bools = {0: False, 1: True}
+        for name, point in (
+            ("p", ("node", 0)),
+            ("p", ("port", 0)),
+            ("p", ("port", 1)),
+            ("p", ("slot", 0, 0)),
+            ("p", ("slot", 0, 1)),
+            ("p", ("slot", 1, 0)),
+            ("p", ("slot", 1, 1)),
+        ):
+            self.check(TWO, [(name, point, point, ())], (0, 0, 0))
+            for k in range(1, len(point)):
+                other = point[:k] + (bools[point[k]],) + point[k + 1 :]
+                self.assertEqual(other, point)
+                for start, end in ((other, point), (point, other), (other, other)):
+                    self.check_bad(TWO, [(name, start, end, ())], 0)
+
+    def test_calls_of_each_port_of_each_map(self):
+        """A part can be called just where its map is in the slot and its start is the port."""
+        rng = Random(205)
+        calls = {True: 0, False: 0}
+        for _ in range(12):
+            atlas = linked_atlas(rng, most_maps=8, most_ports=4, most_nodes=8)
+            for chart in atlas:
+                for point in points_of(atlas, chart):
+                    for other in atlas:
+                        for i in range(other[1]):
+                            s = point[1] if point[0] == "slot" else 0
+                            still = (other[0], ("port", i), ("port", i), ())
+                            route = [still, (chart[0], point, point, (("call", s, 0),))]
+                            fits = point[0] == "slot" and chart[3][s] == other[0] and point[2] == i
+                            if fits:
+                                self.check(atlas, route, (0, 0, 0))
+                            else:
+                                self.check_bad(atlas, route, 1)
+                            calls[fits] += 1
+        self.assertGreater(min(calls.values()), 50)
+
     def test_calls_in_another_slot_with_the_same_map(self):
         still = ("u", ("port", 0), ("port", 0), ())
         for s in (0, 1):

@@ -144,6 +144,15 @@ class MeetingTest(unittest.TestCase):
         self.check((("a", 2, ("x", "x"), ("b", "b"), fewer), inner), "a", P0, P1, (4, ((0,), ("node", 0))))
         same = tuple([edge[:2] + (1,) for edge in fewer if edge[1][0] == "slot"])
         self.check((("a", 2, (), ("b", "b"), same), inner), "a", P0, P1, (4, ((0,), ("node", 0))))
+        # A shorter address comes first, also where the meeting at the longer one is in an earlier slot.
+        deeper = ("c", 2, (), ("d",), ((("port", 0), ("slot", 0, 0), 1), (("port", 1), ("slot", 0, 0), 1)))
+        outer = ("a", 2, (), ("c", "d"), (
+            (("port", 0), ("slot", 0, 0), 1),
+            (("port", 0), ("slot", 1, 0), 2),
+            (("port", 1), ("slot", 0, 1), 1),
+            (("port", 1), ("slot", 1, 0), 2),
+        ))
+        self.check((outer, deeper, ("d", 1, (), (), ())), "a", P0, P1, (4, ((1,), ("port", 0))))
         # Nodes come before ports: both places lead to a node and to the port of the root at the same cost.
         atlas = (("a", 3, ("x",), (), (
             (("port", 0), ("node", 0), 1),

@@ -1,6 +1,5 @@
 """Places within a budget: [15]."""
 
-import sys
 import unittest
 from random import Random
 
@@ -8,6 +7,7 @@ from slotmaps.errors import BadCost, BadPlace, TooLarge
 from slotmaps.places import steps_from, within
 from tests.expansion import copies, costs_from, places_of, steps
 from tests.samples import ODD_VALUES, B, E, random_atlas
+from tests.work import many_calls
 
 BAD_BUDGETS = [None, True, False, -1, -(10**399), "", "1", (), (1,), [], [1], {}, {1: 1}]
 # Each place is left by one step of cost 1: nine places of a copy, then those of the copy inside it.
@@ -146,26 +146,11 @@ class WithinTest(unittest.TestCase):
             down = rng.choice([2, 5, 10, 1000])
             self.check_chain([rng.randint(1, down - 1) for _ in range(rng.randint(0, 4))], down)
 
-    def calls_within(self, *arguments):
-        """Return how many functions are called in a search; a number like this is the same on every machine."""
-        counts = [0]
-
-        def count(frame, event, argument):
-            counts[0] += event == "call"
-
-        before = sys.getprofile()
-        sys.setprofile(count)
-        try:
-            within(*arguments)
-        finally:
-            sys.setprofile(before)
-        return counts[0]
-
     def test_deep_places_take_no_more_work(self):
         """A search goes through the address where it starts, but not through those of all places that it finds."""
         start = ((), ("port", 0))
-        shallow = self.calls_within(LINE, "line", start, 899)
-        deep = self.calls_within(self.check_chain([], 10), "c", start, 1999)
+        shallow = many_calls(within, LINE, "line", start, 899)
+        deep = many_calls(within, self.check_chain([], 10), "c", start, 1999)
         self.assertLess(shallow, 900 * 10)
         self.assertLess(deep, 200 * 10)
 
