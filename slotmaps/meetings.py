@@ -39,7 +39,7 @@ def meetings_inside(insides):
         other_row = insides.row(name, ("port", j))
         queue.extend([(found, name, i, j) for found in meetings_in(row, other_row)])
         chart = insides.maps[name]
-        for cost, s, inner in ways_in(insides.maps, chart, range(len(chart[3])), row, other_row):
+        for cost, s, inner in ways_in(insides.maps, chart, list(range(len(chart[3]))), row, other_row):
             waiting.setdefault(inner, []).append((cost, s, name, i, j))
     heapify(queue)
     settled = {}
