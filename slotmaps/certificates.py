@@ -4,13 +4,12 @@ Floors bound what paths cost up to the places of the copies of the spine; the ta
 other copies.
 """
 
-from slotmaps.atlases import points_of
 from slotmaps.checks import is_count, is_tuple
 from slotmaps.errors import BadCost
 from slotmaps.graphs import entries
 from slotmaps.insides import Insides
-from slotmaps.places import checked_places, place_of
-from slotmaps.spines import spine, spine_costs
+from slotmaps.places import checked_places
+from slotmaps.spines import points_with, spine, spine_costs
 from slotmaps.tables import is_at_most, supports
 
 
@@ -19,12 +18,25 @@ def certificate(atlas, root, first, second):
     maps = checked_places(atlas, root, first, second)
     insides = Insides(maps)
     copies = spine(maps, root, first, second)
-    costs = spine_costs(insides, root, copies, first)
     floors = {}
-    for address, chart in copies.items():
-        for point in points_of(maps, chart):
-            floors[place_of(address, point)] = costs[address].get(point)
+    known = {}
+    for number, (base, shape) in enumerate(spine_costs(insides, copies, first)):
+        key = (shape, tuple(copies.inner[number]))
+        if key not in known:
+            known[key] = points_with_costs(maps, shape, key[1])
+        for way, points in known[key]:
+            address = copies.addresses[number] + way
+            for point, cost in points:
+                floors[(address, point)] = None if cost is None else base + cost
     return (insides.tables, floors)
+
+
+def points_with_costs(maps, shape, inner):
+    """Return what points_with returns, but with the costs of the points in place of the points of the copy itself."""
+    return [
+        (way, [(point, shape.costs.get(here)) for point, here in points])
+        for way, points in points_with(maps, maps[shape.kind], inner)
+    ]
 
 
 def bars(atlas, root, first, second, cost, value):
@@ -35,49 +47,95 @@ def bars(atlas, root, first, second, cost, value):
     if not is_tuple(value, 2, 2):
         return False
     tables, floors = value
+    # What takes the least time comes first.
     return (
-        supports(maps, tables)
+        is_barred_by(floors, first, second, cost)
+        and supports(maps, tables)
         and are_floors(maps, spine(maps, root, first, second), tables, floors)
-        and floors[first] == 0
-        and is_at_most(cost, floors[second])
     )
 
 
-def are_floors(maps, copies, tables, floors):
-    """Return whether the value is a dict of floors that hold in these copies, whatever the first place."""
-    if not isinstance(floors, dict) or len(floors) != many_places(maps, copies):
+def is_barred_by(floors, first, second, cost):
+    """Return whether the value is a dict with floors of 0 for the first place, of at least the cost for the second."""
+    if not isinstance(floors, dict) or floors.get(first) != 0:
         return False
-    for address, chart in copies.items():
-        places = {point: place_of(address, point) for point in points_of(maps, chart)}
-        if not all([place in floors and is_floor(floors[place]) for place in places.values()]):
-            return False
-        outside = {s: tables[name] for s, name in enumerate(chart[3]) if address + (s,) not in copies}
-        if not floors_hold(chart, outside, {point: floors[place] for point, place in places.items()}):
+    floor = floors.get(second, False)
+    return is_floor(floor) and is_at_most(cost, floor)
+
+
+def are_floors(maps, copies, tables, floors):
+    """Return whether a dict has floors for exactly the spine places, and they hold, whatever the first place."""
+    layouts = layouts_of(maps, copies, tables)
+    places, firsts = places_of(copies, layouts)
+    if len(floors) != len(places):
+        return False
+    # To compare long addresses takes less time than to look them up.
+    in_order = list(floors) == places
+    found = list(floors.values()) if in_order else [floors.get(place, False) for place in places]
+    if not all([is_floor(floor) for floor in found]):
+        return False
+    for number, (_, ways) in enumerate(layouts):
+        here = found[firsts[number] : firsts[number + 1]]
+        for inside in copies.inner[number].values():
+            chart = maps[copies.names[inside]]
+            first_port = firsts[inside] + len(chart[2])
+            here = here + found[first_port : first_port + chart[1]]
+        if not floors_hold(ways, here):
             return False
     return True
 
 
-def many_places(maps, copies):
-    """Return the number of the places of these copies and of the ports of the copies in their slots."""
-    many = 0
-    for address, chart in copies.items():
-        outside = [name for s, name in enumerate(chart[3]) if address + (s,) not in copies]
-        many += len(chart[2]) + chart[1] + sum([maps[name][1] for name in outside])
-    return many
-
-
 def is_floor(value):
     """Return whether the value is None or an integer from 0 on."""
-    return value is None or is_count(value)
+    return value is None or (type(value) is int and value >= 0)
 
 
-def floors_hold(chart, outside, floors):
-    """Return whether floors of the points of a copy hold by its edges and by the tables of the slots outside."""
-    ways = list(chart[4])
-    for s, table in outside.items():
-        ways.extend([(("slot", s, i), ("slot", s, j), cost) for i, j, cost in entries(table)])
+def layouts_of(maps, copies, tables):
+    """Return (groups, ways) for each copy by its number: the groups of points_with, and the ways of ways_with."""
+    known = {}
+    found = []
+    for number, name in enumerate(copies.names):
+        key = (name, tuple(copies.inner[number]))
+        if key not in known:
+            groups = points_with(maps, maps[name], key[1])
+            known[key] = (groups, ways_with(maps, maps[name], groups, key[1], tables))
+        found.append(known[key])
+    return found
+
+
+def ways_with(maps, chart, groups, inner, tables):
+    """Return (source, target, cost) for the edges of a copy and for the entries of the tables of all slots but these.
+
+    The sources and the targets are numbers of points: of those of the groups, then of those of the inner slots.
+    """
+    points = [here for _, pairs in groups for _, here in pairs]
+    points.extend([("slot", s, i) for s in inner for i in range(maps[chart[3][s]][1])])
+    numbers = {point: number for number, point in enumerate(points)}
+    ways = [(numbers[source], numbers[target], cost) for source, target, cost in chart[4]]
+    for s, name in enumerate(chart[3]):
+        if s not in inner:
+            for i, j, cost in entries(tables[name]):
+                ways.append((numbers[("slot", s, i)], numbers[("slot", s, j)], cost))
+    return ways
+
+
+def places_of(copies, layouts):
+    """Return (places, firsts): all places of the groups, and by number the positions of the first one of each copy."""
+    places = []
+    firsts = [0]
+    for number, (groups, _) in enumerate(layouts):
+        for way, pairs in groups:
+            address = copies.addresses[number] + way
+            places.extend([(address, point) for point, _ in pairs])
+        firsts.append(len(places))
+    return (places, firsts)
+
+
+def floors_hold(ways, floors):
+    """Return whether the floors of the points of a copy hold by these ways."""
     for source, target, cost in ways:
-        before = floors[source]
-        if before is not None and not is_at_most(floors[target], before + cost):
-            return False
+        if floors[source] is not None:
+            floor = floors[target]
+            if floor is None or floor > floors[source] + cost:
+                return False
     return True

@@ -18,7 +18,7 @@ def is_count(value):
 
 def is_index(value, many):
     """Return whether the value is the index of one of so many things."""
-    # Written out, not by the checks above: this is asked for each item of long routes and addresses.
+    # Written out, not by the checks above: this is asked for each point of each edge.
     return isinstance(value, int) and not isinstance(value, bool) and 0 <= value < many
 
 

@@ -2,32 +2,35 @@
 
 
 class Copies:
-    """The copies around a place, and the copies that a search from there has come to."""
+    """The root copy, with the number 0, and the copies that were come to; each has a number after that around it."""
 
-    def __init__(self, maps, root, address):
-        self.exits = {name: exits_of(maps[name]) for name in maps}
-        self.slots = {name: maps[name][3] for name in maps}
+    def __init__(self, maps, root):
+        self.maps = maps
         self.names = [root]
         self.addresses = [()]
         self.around = [None]
         self.inner = [{}]
-        for s in address:
-            self.inside(self.last(), s)
-
-    def last(self):
-        """Return the number that was given last: at first that of the copy at the address."""
-        return len(self.names) - 1
+        self.exits = {}
 
     def inside(self, number, s):
         """Return the number of the copy in a slot of a copy; it gets one now if it has none."""
         inner = self.inner[number]
         if s not in inner:
             inner[s] = len(self.names)
-            self.names.append(self.slots[self.names[number]][s])
+            self.names.append(self.maps[self.names[number]][3][s])
             self.addresses.append(self.addresses[number] + (s,))
             self.around.append(number)
             self.inner.append({})
         return inner[s]
+
+    def along(self, address):
+        """Return the numbers of the copies around and at an address, from the root down."""
+        number = 0
+        numbers = [number]
+        for s in address:
+            number = self.inside(number, s)
+            numbers.append(number)
+        return numbers
 
     def leaving(self, number, point):
         """Return the steps that leave a place, as (number of the target's copy, target point, cost)."""
@@ -40,6 +43,8 @@ class Copies:
     def leaving_by(self, number, point):
         """Return the steps that leave a point of a copy by edges of this copy."""
         name = self.names[number]
+        if name not in self.exits:
+            self.exits[name] = exits_of(self.maps[name])
         return [
             (number if s is None else self.inside(number, s), target, cost)
             for s, target, cost in self.exits[name].get(point, [])

@@ -60,22 +60,25 @@ class Reach:
         self.insides = insides
         self.pairs = []
         self.numbers = {}
-        address = place[0]
         copies = spine(insides.maps, root, place, place)
-        costs = spine_costs(insides, root, copies, place)
         # By level: the map of the copy of the spine with its points, and the pairs in its other slots.
-        self.levels = [(chart, costs[around]) for around, chart in copies.items()]
-        self.beside = [
-            self.pairs_in(chart, points, address[level] if level < len(address) else None)
-            for level, (chart, points) in enumerate(self.levels)
-        ]
+        self.levels = []
+        self.beside = []
+        known = {}
+        for level, (_, shape) in enumerate(spine_costs(insides, copies, place)):
+            chart = insides.maps[shape.kind]
+            key = (shape, place[0][level : level + 1])
+            if key not in known:
+                known[key] = self.pairs_in(chart, shape.costs, key[1])
+            self.levels.append((chart, shape.costs))
+            self.beside.append(known[key])
         # By number: the map of the pair with its points, and the pairs in all its slots.
         self.points = []
         self.inner = []
         while len(self.inner) < len(self.pairs):
             chart, points = self.points_of(self.pairs[len(self.inner)])
             self.points.append((chart, points))
-            self.inner.append(self.pairs_in(chart, points, None))
+            self.inner.append(self.pairs_in(chart, points, ()))
 
     def points_of(self, pair):
         """Return the map of a pair, and a dict whose keys are the points that can be reached in a copy of it."""
@@ -84,11 +87,11 @@ class Reach:
         return (self.insides.maps[name], {point: True for row in rows for point in row})
 
     def pairs_in(self, chart, points, left_out):
-        """Return the numbers of the pairs of the copies in the slots of a copy but one, for these points of it."""
+        """Return the numbers of the pairs of the copies in all slots of a copy but these, for these points of it."""
         found = []
         for s, name in enumerate(chart[3]):
             ports = [i for i in range(self.insides.many_ports(name)) if ("slot", s, i) in points]
-            if ports and s != left_out:
+            if ports and s not in left_out:
                 found.append(self.number((name, tuple(ports))))
         return found
 

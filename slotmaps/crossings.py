@@ -5,6 +5,8 @@ inside that copy, and enters the copies around the second place one by one. So a
 paths inside one copy cost. The level of a copy around a place is the length of its address.
 """
 
+from slotmaps.shapes import Shapes
+
 
 class Crossing:
     """The paths from one place to another; for each level around a place there is the kind of the copy.
@@ -31,13 +33,16 @@ class Crossing:
         At this level the path goes from the start to the end inside the copy; before and behind, it is below.
         """
         best = None
+        known = {}
         for level in range(self.common + 1):
-            kind = self.first_kinds[level]
-            for start, (before, _) in self.starts[level].items():
-                row = self.insides.row(kind, start)
-                for end, (behind, _) in self.ends[level].items():
-                    if end in row and (best is None or before + row[end] + behind < best[0]):
-                        best = (before + row[end] + behind, level, start, end)
+            before, starts, _ = self.starts[level]
+            behind, ends, _ = self.ends[level]
+            if (starts, ends) not in known:
+                known[(starts, ends)] = cheapest_inside(self.insides, starts, ends)
+            found = known[(starts, ends)]
+            if found is not None and (best is None or before + found[0] + behind < best[0]):
+                cost, start, end = found
+                best = (before + cost + behind, level, start, end)
         return best
 
     def ways_up(self, level, point):
@@ -45,7 +50,7 @@ class Crossing:
         ways = []
         while level < len(self.starts) - 1:
             end = ("port", point[2])
-            _, point = self.starts[level][point]
+            point = self.starts[level][2][point]
             level += 1
             ways.append((level, point, end))
         ways.reverse()
@@ -56,7 +61,7 @@ class Crossing:
         ways = []
         while level < len(self.ends) - 1:
             start = ("port", point[2])
-            _, point = self.ends[level][point]
+            point = self.ends[level][2][point]
             level += 1
             ways.append((level, start, point))
         return ways
@@ -72,49 +77,81 @@ def common_length(address, other):
     return length
 
 
+def cheapest_inside(insides, starts, ends):
+    """Return (cost, start, end) of a cheapest way inside a copy, with the costs of its start and its end, or None."""
+    best = None
+    for start, before in starts.costs.items():
+        row = insides.row(starts.kind, start)
+        for end, behind in ends.costs.items():
+            if end in row and (best is None or before + row[end] + behind < best[0]):
+                best = (before + row[end] + behind, start, end)
+    return best
+
+
 def start_costs(insides, kinds, place):
     """Return, for each level of a place, how cheaply paths from the place come to its copy from the one below.
 
-    This is a dict from points of the copy to (cost, point where the path comes to the copy below). The last level
-    has the point of the place alone.
+    This is (base, shape, origins): the costs of points of the copy, and a dict from these points to those where the
+    paths come to the copy below. The last level has the point of the place alone, and no origins.
     """
-    address, point = place
-    levels = [{point: (0, None)}]
-    for level in reversed(range(len(address))):
-        kind = kinds[level + 1]
-        found = {}
-        for start, (before, _) in levels[-1].items():
-            row = insides.row(kind, start)
-            for i in range(insides.many_ports(kind)):
-                if ("port", i) in row:
-                    keep_cheaper(found, ("slot", address[level], i), before + row[("port", i)], start)
-        levels.append(found)
-    levels.reverse()
-    return levels
+    return costs_by_level(insides, kinds, place, costs_out)
 
 
 def end_costs(insides, kinds, place):
     """Return, for each level of a place, how cheaply paths to the place go from its copy by the one below.
 
-    This is a dict from points of the copy to (cost, point where the path leaves the copy below). The last level
-    has the point of the place alone.
+    This is (base, shape, origins): the costs of points of the copy, and a dict from these points to those where the
+    paths leave the copy below. The last level has the point of the place alone, and no origins.
     """
+    return costs_by_level(insides, kinds, place, costs_in)
+
+
+def costs_by_level(insides, kinds, place, costs_around):
+    """Return (base, shape, origins) for each level of a place; a function gives those of a level by the level below."""
     address, point = place
-    levels = [{point: (0, None)}]
+    shapes = Shapes()
+    base, shape = shapes.shaped(kinds[-1], {point: 0})
+    levels = [(base, shape, {})]
+    # The same step from shape to shape often comes again.
+    known = {}
     for level in reversed(range(len(address))):
-        kind = kinds[level + 1]
-        found = {}
-        for i in range(insides.many_ports(kind)):
-            row = insides.row(kind, ("port", i))
-            for end, (behind, _) in levels[-1].items():
-                if end in row:
-                    keep_cheaper(found, ("slot", address[level], i), row[end] + behind, end)
-        levels.append(found)
+        key = (shape, address[level], kinds[level])
+        if key not in known:
+            costs, origins = costs_around(insides, shape, address[level])
+            known[key] = (*shapes.shaped(kinds[level], costs), origins)
+        more, shape, origins = known[key]
+        base += more
+        levels.append((base, shape, origins))
     levels.reverse()
     return levels
 
 
-def keep_cheaper(found, point, cost, other):
-    """Keep (cost, other) for the point, unless what is kept for it costs no more."""
-    if point not in found or cost < found[point][0]:
-        found[point] = (cost, other)
+def costs_out(insides, shape, s):
+    """Return (costs, origins) of points of a copy for paths out of the copy in a slot, from points with this shape."""
+    costs, origins = {}, {}
+    for start, before in shape.costs.items():
+        row = insides.row(shape.kind, start)
+        for i in range(insides.many_ports(shape.kind)):
+            cost = row.get(("port", i))
+            if cost is not None:
+                keep_cheaper(costs, origins, ("slot", s, i), before + cost, start)
+    return (costs, origins)
+
+
+def costs_in(insides, shape, s):
+    """Return (costs, origins) of points of a copy for paths into the copy in a slot, to points with this shape."""
+    costs, origins = {}, {}
+    for i in range(insides.many_ports(shape.kind)):
+        row = insides.row(shape.kind, ("port", i))
+        for end, behind in shape.costs.items():
+            cost = row.get(end)
+            if cost is not None:
+                keep_cheaper(costs, origins, ("slot", s, i), cost + behind, end)
+    return (costs, origins)
+
+
+def keep_cheaper(costs, origins, point, cost, origin):
+    """Keep the cost and the origin for the point, unless the cost that is kept for it is no more."""
+    if point not in costs or cost < costs[point]:
+        costs[point] = cost
+        origins[point] = origin

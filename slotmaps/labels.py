@@ -20,13 +20,15 @@ def nearest(atlas, root, place, label):
     insides = Insides(maps)
     marked = Marked(insides, label)
     names = names_along(maps, root, place[0])
+    starts = start_costs(insides, names, place)
     best = None
-    # A path stays inside some copy around the place, to which it comes from the copies below.
-    for level, starts in enumerate(start_costs(insides, names, place)):
-        for start, (cost, _) in starts.items():
-            found = marked.nearest_from(names[level], start)
-            if found is not None:
-                best = lesser(best, moved_down(found, cost, place[0][:level]))
+    # A path stays inside some copy around the place, to which it comes from the copies below. The copies further up
+    # come last: what is found there mostly costs more.
+    for level in reversed(range(len(starts))):
+        cost, shape, _ = starts[level]
+        found = marked.nearest_from(shape)
+        if found is not None and (best is None or cost + found[0] <= best[0]):
+            best = lesser(best, moved_down(found, cost, place[0][:level]))
     return as_answer(best)
 
 
@@ -69,15 +71,19 @@ class Marked:
         """Return the nodes of a copy itself that are in a row of least costs."""
         return [(row[node], 0, (), node) for node in self.nodes[name] if node in row]
 
-    def nearest_from(self, name, start):
-        """Return the nearest node inside a copy from any point of it, or None if there is none."""
-        key = (name, start)
-        if key not in self.known:
-            self.known[key] = self.find_nearest(name, start)
-        return self.known[key]
+    def nearest_from(self, shape):
+        """Return the nearest node inside a copy from points of it with the costs of the shape, or None."""
+        if shape not in self.known:
+            best = None
+            for start, cost in shape.costs.items():
+                found = self.nearest_from_point(shape.kind, start)
+                if found is not None:
+                    best = lesser(best, moved_down(found, cost, ()))
+            self.known[shape] = best
+        return self.known[shape]
 
-    def find_nearest(self, name, start):
-        """Return what nearest_from returns, worked out from the nearest nodes inside the copies in the slots."""
+    def nearest_from_point(self, name, start):
+        """Return the nearest node inside a copy from a point, by the nearest ones inside the copies in the slots."""
         row = self.insides.row(name, start)
         best = None
         for found in self.nodes_in(name, row):

@@ -1,6 +1,7 @@
 """Least costs of paths between places that may not use all copies."""
 
 from slotmaps.checks import is_count
+from slotmaps.copies import Copies
 from slotmaps.crossings import Crossing
 from slotmaps.errors import BadAddress, BadDepth
 from slotmaps.insides import Insides
@@ -59,9 +60,9 @@ class ShallowCopies:
     def kinds_along(self, root, address, depth):
         """Return the kinds of the copies around and at an address, from the root down."""
         names = names_along(self.maps, root, address)
-        return [self.kind(name, depth - level) for level, name in enumerate(names)]
+        return [self.kind_of(name, depth - level) for level, name in enumerate(names)]
 
-    def kind(self, name, levels):
+    def kind_of(self, name, levels):
         """Return the kind of a copy of a map with so many levels below it; with less than 0 it may not be used."""
         # Beyond some depth the tables are the last ones.
         key = (name, max(-1, min(levels, len(self.tables))))
@@ -100,34 +101,35 @@ class OpenCopies:
 
     def __init__(self, maps, root, closed):
         self.maps = maps
-        self.root = root
         self.tables = Insides(maps).tables
         self.kinds = Kinds(maps)
-        self.closed = {address: True for address in closed}
-        self.plain = {name: self.kinds.number(name, self.slot_tables((), name, {})) for name in maps}
+        self.known = {}
+        self.copies = Copies(maps, root)
+        self.closed = {self.copies.along(address)[-1]: True for address in closed}
         self.around = self.kinds_around()
 
     def kinds_around(self):
-        """Return a dict from the addresses of the closed copies, and of those around them, to their kinds."""
-        names = {}
-        for address in self.closed:
-            for level, name in enumerate(names_along(self.maps, self.root, address)):
-                names[address[:level]] = name
+        """Return a dict from the numbers of the closed copies, and of those around them, to their kinds."""
         around = {}
-        # The kind of a copy rests on those of the copies in its slots.
-        for address in sorted(names, key=len, reverse=True):
-            name = names[address]
-            tables = None if address in self.closed else self.slot_tables(address, name, around)
-            around[address] = self.kinds.number(name, tables)
+        # The kind of a copy rests on those of the copies in its slots, which have greater numbers.
+        for number in reversed(range(len(self.copies.names))):
+            name = self.copies.names[number]
+            if number in self.closed:
+                around[number] = self.kinds.number(name, None)
+            else:
+                inner = self.copies.inner[number]
+                around[number] = self.kind_of(name, tuple([(s, around[inside]) for s, inside in inner.items()]))
         return around
 
-    def slot_tables(self, address, name, around):
-        """Return the tables of the slots of a copy that is not closed, of which some may have kinds of their own."""
-        tables = []
-        for s, inner in enumerate(self.maps[name][3]):
-            kind = around.get(address + (s,))
-            tables.append(self.tables[inner] if kind is None else self.kinds.port_table(kind))
-        return tuple(tables)
+    def kind_of(self, name, inner):
+        """Return the kind of a copy of a map that is not closed, with (slot, kind) for slots of kinds of their own."""
+        key = (name, inner)
+        if key not in self.known:
+            tables = [self.tables[inside] for inside in self.maps[name][3]]
+            for s, kind in inner:
+                tables[s] = self.kinds.port_table(kind)
+            self.known[key] = self.kinds.number(name, tuple(tables))
+        return self.known[key]
 
     def cost(self, first, second):
         """Return the least cost of a path that uses open copies alone, or None if there is none."""
@@ -139,9 +141,14 @@ class OpenCopies:
         """Return the kinds of the copies around and at an address, from the root down."""
         kinds = []
         is_open = True
-        for level, name in enumerate(names_along(self.maps, self.root, address)):
-            here = address[:level]
-            is_open = is_open and here not in self.closed
-            # A copy that is not around a closed one has no closed copy inside.
-            kinds.append(self.around.get(here, self.plain[name]) if is_open else self.kinds.number(name, None))
+        for number in self.copies.along(address):
+            name = self.copies.names[number]
+            is_open = is_open and number not in self.closed
+            if not is_open:
+                kinds.append(self.kinds.number(name, None))
+            elif number in self.around:
+                kinds.append(self.around[number])
+            else:
+                # A copy that is not around a closed one has no closed copy inside.
+                kinds.append(self.kind_of(name, ()))
         return kinds

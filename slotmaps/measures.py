@@ -28,10 +28,14 @@ def checked_route(maps, value):
     more than its depth, and 0 for a path without steps. The start is its number among the points of all maps, the
     end its number among those of the map of the part.
     """
+    return checked_parts(maps, {}, value)
+
+
+def checked_parts(maps, charts, value):
+    """Return what checked_route returns; the numbered maps that are needed are kept in a dict, for other routes."""
     if not isinstance(value, list) or not 1 <= len(value) <= MOST_PARTS:
         raise BadRoute(0)
     found = []
-    charts = {}
     for part in value:
         if type(part) is not tuple or len(part) != 4 or type(part[0]) is not str or part[0] not in maps:
             raise BadRoute(len(found))

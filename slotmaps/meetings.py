@@ -4,7 +4,7 @@ from heapq import heapify, heappop, heappush
 
 from slotmaps.insides import Insides
 from slotmaps.places import checked_places
-from slotmaps.ranks import as_answer, lesser, moved_down, moved_out
+from slotmaps.ranks import as_answer, least_moved_down, lesser, moved_out
 from slotmaps.spines import spine, spine_costs
 
 
@@ -13,17 +13,23 @@ def meeting(atlas, root, first, second):
     maps = checked_places(atlas, root, first, second)
     insides = Insides(maps)
     copies = spine(maps, root, first, second)
-    first_costs = spine_costs(insides, root, copies, first)
-    second_costs = spine_costs(insides, root, copies, second)
+    first_costs = spine_costs(insides, copies, first)
+    second_costs = spine_costs(insides, copies, second)
     inner = meetings_inside(insides)
-    best = None
-    for address, chart in copies.items():
-        # The copies of the spine have costs of their own.
-        slots = [s for s in range(len(chart[3])) if address + (s,) not in copies]
-        found = best_meeting(maps, inner, chart, slots, first_costs[address], second_costs[address])
-        if found is not None:
-            best = lesser(best, moved_down(found, 0, address))
-    return as_answer(best)
+    options = []
+    # With the same shapes and slots the same meeting is the best one.
+    known = {}
+    for number, name in enumerate(copies.names):
+        cost, shape = first_costs[number]
+        other_cost, other_shape = second_costs[number]
+        key = (shape, other_shape, tuple(copies.inner[number]))
+        if key not in known:
+            # The copies of the spine have costs of their own.
+            slots = [s for s in range(len(maps[name][3])) if s not in copies.inner[number]]
+            known[key] = best_meeting(maps, inner, maps[name], slots, shape.costs, other_shape.costs)
+        if known[key] is not None:
+            options.append((known[key], cost + other_cost, copies.addresses[number]))
+    return as_answer(least_moved_down(options))
 
 
 def meetings_inside(insides):

@@ -6,7 +6,7 @@ A variable that holds a map is called chart, since map is the name of a builtin.
 from heapq import heappop, heappush
 
 from slotmaps.atlases import checked_maps, is_point
-from slotmaps.checks import is_count, is_index, is_tuple
+from slotmaps.checks import is_count, is_tuple
 from slotmaps.copies import Copies
 from slotmaps.errors import BadAddress, BadCost, BadPlace, TooLarge
 
@@ -33,8 +33,9 @@ def steps_from(atlas, root, place):
     """Return all steps that leave the place, as (target place, cost)."""
     maps = checked_maps(atlas, root)
     check_place(maps, root, place)
-    copies = Copies(maps, root, place[0])
-    steps = copies.leaving(copies.last(), place[1])
+    copies = Copies(maps, root)
+    here = copies.along(place[0])[-1]
+    steps = copies.leaving(here, place[1])
     return sorted([((copies.addresses[number], target), cost) for number, target, cost in steps])
 
 
@@ -44,15 +45,15 @@ def within(atlas, root, place, budget):
     check_place(maps, root, place)
     if not is_count(budget):
         raise BadCost()
-    copies = Copies(maps, root, place[0])
+    copies = Copies(maps, root)
     costs = costs_within(copies, place, budget)
     return sorted([(cost, (copies.addresses[number], point)) for (number, point), cost in costs.items()])
 
 
 def costs_within(copies, place, budget):
-    """Return the least costs within the budget, by (number of the copy, point), from a place of the last copy."""
+    """Return the least costs within the budget, by (number of the copy, point), from a place."""
     costs = {}
-    queue = [(0, copies.last(), place[1])]
+    queue = [(0, copies.along(place[0])[-1], place[1])]
     while queue:
         cost, number, point = heappop(queue)
         if (number, point) in costs:
@@ -72,7 +73,8 @@ def copy_name(maps, root, address):
     name = root
     for index in address:
         slots = maps[name][3]
-        if not is_index(index, len(slots)):
+        # Written out, not by is_index: this is asked for each index of long addresses.
+        if type(index) is not int or not 0 <= index < len(slots):
             return None
         name = slots[index]
     return name

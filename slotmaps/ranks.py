@@ -16,6 +16,17 @@ def moved_down(found, cost, address):
     return (cost + price, len(address) + length, address + inner, point)
 
 
+def least_moved_down(options):
+    """Return the least of the places that moved_down gives for options (found, cost, address), or None."""
+    least = min([cost + found[0] for found, cost, _ in options], default=None)
+    best = None
+    for found, cost, address in options:
+        # Long addresses are put together only where costs are equal.
+        if cost + found[0] == least:
+            best = lesser(best, moved_down(found, cost, address))
+    return best
+
+
 def lesser(best, found):
     """Return the lesser of two places, each of which may be None."""
     if best is None or (found is not None and found < best):

@@ -5,8 +5,8 @@ from slotmaps.between import crossing_between
 from slotmaps.checks import is_tuple
 from slotmaps.errors import BadRoute, BadTrip
 from slotmaps.insides import Insides
-from slotmaps.measures import checked_route
-from slotmaps.places import MOST_INDEXES, check_place, checked_places, passed_copy, place_of
+from slotmaps.measures import checked_parts
+from slotmaps.places import MOST_INDEXES, check_place, checked_places, names_along, place_of
 from slotmaps.routes import cheapest_route
 
 MOST_LEGS = 500
@@ -18,37 +18,53 @@ def measure_trip(atlas, root, place, trip):
     check_place(maps, root, place)
     if not isinstance(trip, list) or len(trip) > MOST_LEGS:
         raise BadTrip(0)
-    here = place
+    legs = Legs(maps, root, place)
     cost = 0
     steps = 0
     for position, leg in enumerate(trip):
-        told = measure_leg(maps, root, here, leg)
+        told = legs.followed(leg)
         if told is None:
             raise BadTrip(position)
-        here, price, many = told
-        cost += price
-        steps += many
-    return (here, cost, steps)
+        cost += told[0]
+        steps += told[1]
+    return (legs.place, cost, steps)
 
 
-def measure_leg(maps, root, place, value):
-    """Return (place, cost, steps) of a leg that starts at the place, or None if the value is no such leg."""
-    if not is_tuple(value, 2, 2):
-        return None
-    address, route = value
-    name = passed_copy(maps, root, address)
-    if name is None:
-        return None
-    try:
-        found = checked_route(maps, route)
-    except BadRoute:
-        return None
-    last_name, start, end, _ = route[-1]
-    target = place_of(address, end)
-    if last_name != name or place_of(address, start) != place or len(target[0]) > MOST_INDEXES:
-        return None
-    steps, cost, _, _, _ = found[-1]
-    return (target, cost, steps)
+class Legs:
+    """The legs of a trip, which are followed one by one; the place is where the trip has come to.
+
+    A leg starts there, so that it is in the copy of this place or in the one around it. The names are those of the
+    maps of the copies around and at its address.
+    """
+
+    def __init__(self, maps, root, place):
+        self.maps = maps
+        self.place = place
+        self.names = names_along(maps, root, place[0])
+        self.charts = {}
+
+    def followed(self, value):
+        """Follow a leg and return its (cost, steps), or return None if the value is no leg from this place."""
+        if not is_tuple(value, 2, 2) or not isinstance(value[0], tuple):
+            return None
+        address, route = value
+        try:
+            found = checked_parts(self.maps, self.charts, route)
+        except BadRoute:
+            return None
+        name, start, end, _ = route[-1]
+        # What is equal to an address may still have bools in it.
+        if place_of(address, start) != self.place or [s for s in address if type(s) is not int]:
+            return None
+        target = place_of(address, end)
+        if name != self.names[len(address)] or len(target[0]) > MOST_INDEXES:
+            return None
+        self.names = self.names[: len(address) + 1]
+        if end[0] == "slot":
+            self.names.append(self.maps[name][3][end[1]])
+        self.place = target
+        steps, cost, _, _, _ = found[-1]
+        return (cost, steps)
 
 
 def best_trip(atlas, root, first, second):
