@@ -21,22 +21,15 @@ def certificate(atlas, root, first, second):
     floors = {}
     known = {}
     for number, (base, shape) in enumerate(spine_costs(insides, copies, first)):
-        key = (shape, tuple(copies.inner[number]))
+        key = (shape.kind, tuple(copies.inner[number]))
         if key not in known:
-            known[key] = points_with_costs(maps, shape, key[1])
+            known[key] = points_with(maps, maps[shape.kind], key[1])
         for way, points in known[key]:
             address = copies.addresses[number] + way
-            for point, cost in points:
+            for point, here in points:
+                cost = shape.costs.get(here)
                 floors[(address, point)] = None if cost is None else base + cost
     return (insides.tables, floors)
-
-
-def points_with_costs(maps, shape, inner):
-    """Return what points_with returns, but with the costs of the points in place of the points of the copy itself."""
-    return [
-        (way, [(point, shape.costs.get(here)) for point, here in points])
-        for way, points in points_with(maps, maps[shape.kind], inner)
-    ]
 
 
 def bars(atlas, root, first, second, cost, value):

@@ -5,7 +5,7 @@ inside that copy, and enters the copies around the second place one by one. So a
 paths inside one copy cost. The level of a copy around a place is the length of its address.
 """
 
-from slotmaps.shapes import Shapes
+from slotmaps.shapes import Shape, Shapes
 
 
 class Crossing:
@@ -110,7 +110,7 @@ def costs_by_level(insides, kinds, place, costs_around):
     """Return (base, shape, origins) for each level of a place; a function gives those of a level by the level below."""
     address, point = place
     shapes = Shapes()
-    base, shape = shapes.shaped(kinds[-1], {point: 0})
+    base, shape = 0, Shape(kinds[-1], {point: 0})
     levels = [(base, shape, {})]
     # The same step from shape to shape often comes again.
     known = {}
